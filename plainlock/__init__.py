@@ -1,0 +1,1 @@
+"""Plainlock: a lock service's PLAN, as told by one plain lock."""

@@ -1,0 +1,122 @@
+"""The examples of the document, section by section, as they are written there."""
+
+import unittest
+
+from tests.helping import all_names, run_example
+
+EXAMPLES = {
+    4: """
+>>> fraction(6, -4), over((1, 2), (3, 1)), less((-1, 2), (0, 1)), greatest(((1, 3), (1, 2))), sum_of(())
+((-3, 2), (1, 6), True, (1, 2), (0, 1))
+>>> over((1, 2), (0, 1))
+raises CanNot()
+""",
+    5: """
+>>> one = (((0, (1, 1)), (1, (-1, 1))), (-2, 1))
+>>> two, three = (((1, (1, 1)),), (5, 1)), (((0, (-1, 1)),), (-4, 1))
+>>> is_answer((one, two), ((3, 1), (5, 1))), is_sum((one, two, three), ((1, 1), (1, 1), (1, 1))), extremes((one, two, three))
+(True, True, (((1, 1), (1, 1), (1, 1)),))
+>>> put_together((one, two), ((1, 2), (1, 1))), greatest_of((one, two), 0)
+((((0, (1, 2)), (1, (1, 2))), (4, 1)), (3, 1))
+>>> sum_against((one, two))
+raises CanNot()
+""",
+    6: """
+>>> web = (3, ((0, 1, (5, 1)), (1, 0, (-2, 1)), (1, 2, (3, 1)), (2, 1, (-1, 1))))
+>>> is_schedule(web, ((0, 1), (2, 1), (9, 2))), farthest(web, 0, 2), chain(web, 2, 0), farthest(web, 2, 0)
+(True, (8, 1), (3, 1), (-3, 1))
+>>> stretched(web, 2, (100, 1)), drawn(web, 0, (6, 1)), farthest((2, ()), 0, 1)
+(((-8, 1), (-3, 1), (0, 1)), ((0, 1), (5, 1), (6, 1)), None)
+>>> shut = tied(web, ((0, 2, (2, 1)),))
+>>> is_ring(shut, (4, 3, 1)), length(shut, (4, 3, 1)), is_ring(web, ())
+(True, (-1, 1), False)
+>>> schedule(shut)
+raises CanNot()
+>>> farthest(web, 3, 0)
+raises NoPlace(place=3)
+""",
+    7: """
+>>> desk = ((((1, 1), (2, 1)),), (0, 0, 0), (), ((0, 1, (4, 1), None), (0, 2, (0, 1), (6, 1))), ())
+>>> overlapping(desk), is_play(desk, (((0, 1), (3, 1)), ((4, 1), (7, 1)), ((6, 1), (9, 1))))
+(((0, 1),), True)
+>>> greatest_between(desk, 1, 2), farthest(web_of(desk), 1, 2)
+((2, 1), (4, 1))
+>>> late = with_ties(desk, ((2, 1, (-3, 1)),))
+>>> is_schedule(web_of(late), ((0, 1), (2, 1), (6, 1)))
+True
+>>> play(late)
+raises CanNot()
+""",
+    8: """
+>>> one, two, slope = (1, 1), (2, 1), ((1, 1), (1, 1))
+>>> lone = (((0,),), (((8, 1), "all", (0, 1)),), (slope, slope), ((one, two), (one, two), (one, (3, 1)), (one, None)), ((10, 1), "sent", (0, 1), "once", False), ((True, True),), ())
+>>> is_plan(lone), setting(lone, ("length", 0)), setting(lone, ("most", "back")), setting(lone, ("asks", 0)), len(settings(lone)), len(times_of(lone))
+(True, (8, 1), None, True, 24, 11)
+>>> longest_belief(lone), shortest_keep(lone, 0), can_hold(lone), can_hold(changed(lone, ("term",), (3, 2)))
+((10, 1), (8, 1), True, False)
+>>> shortest_keep(changed(lone, ("fast", "keeper"), (4, 3)), 0), setting(scaled(lone, (1, 2)), ("most", "deed"))
+((6, 1), (3, 2))
+>>> later = changed(lone, ("most", "ask"), None)
+>>> covers(lone, later), covers(later, lone), same_but_times(lone, changed(lone, ("term",), (9, 1)))
+(True, False, False)
+>>> changed(lone, ("least", "ask"), (3, 1))
+raises Unfit()
+>>> setting(lone, ("length", 1))
+raises NoPlace(place=('length', 1))
+""",
+    9: """
+>>> a, b, new = (1, 0), (1, 1), (None, None, None, None)
+>>> held = asked(lone, 0, new, a, (3, 1))
+>>> held, asked(lone, 0, held[1], b, (10, 1)), asked(lone, 0, held[1], b, (11, 1))
+((True, ((1, 0), (1, 0), (11, 1), None)), (False, ((1, 0), (1, 0), (11, 1), None)), (True, ((1, 1), (1, 1), (19, 1), None)))
+>>> free_from(lone, 0, held[1], (4, 1)), free_from(lone, 0, let_go(lone, 0, held[1], a), (4, 1)), kept_for(lone, 0)
+((11, 1), (4, 1), (8, 1))
+>>> asked(lone, 0, held[1], a, (12, 1)), asked(lone, 0, let_go(lone, 0, held[1], a), a, (12, 1))[0]
+((True, ((1, 0), (1, 0), (20, 1), None)), False)
+>>> weak = changed(changed(lone, ("record", 0), "number"), ("grace", 0), (5, 1))
+>>> fallen(weak, 0, held[1], (6, 1)), kept_for(weak, 0)
+(((1, 0), None, None, (11, 1)), (5, 1))
+>>> Keeper(lone, 0).take((0, 1), ("ask", 0, a, 1))
+[('grant', 0, (1, 0), 1)]
+>>> kept_for(lone, 1)
+raises NoPlace(place=1)
+""",
+    10: """
+>>> some = Library(lone, 7)
+>>> some.act((0, 1), ("ask", 2))
+(((("keeper", 0), ("ask", 2, (1, 7), 1)),), (("ask", 2),))
+>>> some.take((3, 1), ("keeper", 0), ("grant", 2, (1, 7), 1)), some.last(2)
+(((), (("told", 2, (1, 7)),)), (10, 1))
+>>> some.act((10, 1), ("deed", 2, 0, ("put", 5))), some.act((10, 1), ("send",))
+(((), (("deed", 2, 0, (1, 7), 2, ("put", 5)),)), (((("store", 2, 0), ("deed", 2, 0, (1, 7), 2, ("put", 5))),), ()))
+>>> some.act((11, 1), ("look", 2)), some.stands(2)
+((((("keeper", 0), ("release", 2, (1, 7))),), (("look", 2, False),)), False)
+>>> some.act((11, 1), ("again", 2))
+raises CanNot()
+""",
+}
+
+
+class Examples(unittest.TestCase):
+    def test_all_in_their_order(self):
+        names = all_names()
+        for section in sorted(EXAMPLES):
+            for code, told in steps(EXAMPLES[section]):
+                with self.subTest(section=section, code=code):
+                    run_example(self, names, code, told)
+
+    def test_none_is_left_out(self):
+        many = sum(len(list(steps(text))) for text in EXAMPLES.values())
+        self.assertEqual(many, sum(text.count(">>> ") for text in EXAMPLES.values()))
+        self.assertEqual(sorted(EXAMPLES), list(range(4, 11)))
+
+
+def steps(text):
+    """Pairs of what is typed and what is told, "" if nothing is."""
+    for part in text.strip().split(">>> ")[1:]:
+        code, _, told = part.strip().partition("\n")
+        yield code, told
+
+
+if __name__ == "__main__":
+    unittest.main()
