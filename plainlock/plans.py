@@ -1,7 +1,7 @@
 """PLANS: what a service that lends locks says of itself, and its SETTINGS."""
 
 from plainlock.errors import NoPlace, Unfit
-from plainlock.forms import goes_up, is_count, is_place, is_row, is_truth, is_tuple_of, tupled
+from plainlock.forms import goes_up, is_place, is_row, is_truth, is_tuple_of, tupled
 from plainlock.fractions import ZERO, is_from_zero, is_most, less, over, plus, times
 from plainlock.sheets import is_clock
 

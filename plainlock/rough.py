@@ -2,8 +2,9 @@
 
 from plainlock.pivots import Table
 
-# Numbers are kept in units of 1 / 2 ** DEPTH; what is below 2 ** DUST of these
-# is taken for nothing, as rounding may have made it.
+# Numbers are kept in units of 1 / 2 ** depth; what is below 2 ** dust of these
+# is taken for nothing, as rounding may have made it. Rows whose numbers are of
+# very unlike sizes need more of both.
 DEPTH = 320
 DUST = 120
 
@@ -13,11 +14,14 @@ class Lost(ValueError):
 
 
 class Rough(Table):
-    """A Table whose below stays 2 ** DEPTH, all numbers in it rounded."""
+    """A Table whose below stays 2 ** depth, all numbers in it rounded."""
 
     def __init__(self, rows, many):
-        Table.__init__(self, [_levelled(row) for row in rows], many)
-        self.below = 1 << DEPTH
+        spread = max([_spread(row) for row in rows])
+        self.depth = DEPTH + 3 * spread
+        self.dust = 1 << (DUST + spread)
+        Table.__init__(self, [_levelled(row, self.depth) for row in rows], many)
+        self.below = 1 << self.depth
         self.left = 20 * (many + len(rows)) + 200
 
     def pivot(self, at, column):
@@ -27,7 +31,7 @@ class Rough(Table):
             raise Lost()
         base = self.rows[at]
         turn = base[column]
-        base = [(y << DEPTH) // turn for y in base]
+        base = [(y << self.depth) // turn for y in base]
         base[column] = self.below * self.below // turn
         for k in range(len(self.rows)):
             self.rows[k] = self._moved(self.rows[k], base, column)
@@ -42,9 +46,9 @@ class Rough(Table):
         factor = row[column]
         if factor == 0:
             return row
-        dust = 1 << DUST
-        new = [x - (factor * y >> DEPTH) for x, y in zip(row, base)]
-        new[column] = -(factor * base[column] >> DEPTH)
+        depth, dust = self.depth, self.dust
+        new = [x - (factor * y >> depth) for x, y in zip(row, base)]
+        new[column] = -(factor * base[column] >> depth)
         return [0 if -dust < x < dust else x for x in new]
 
     def best_in(self, column):
@@ -57,7 +61,13 @@ class Rough(Table):
         return None if found is None else found[1]
 
 
-def _levelled(row):
+def _levelled(row, depth):
     """A row whose greatest number, but for its bound, is 1."""
     size = max([abs(x) for x in row[:-1]] + [0]) or 1
-    return [(x << DEPTH) // size for x in row]
+    return [(x << depth) // size for x in row]
+
+
+def _spread(row):
+    """By how many bits the numbers of a row, but for its bound, differ at most."""
+    sizes = [abs(x).bit_length() for x in row[:-1] if x]
+    return max(sizes) - min(sizes) if sizes else 0

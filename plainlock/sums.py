@@ -5,7 +5,7 @@ from math import gcd
 from plainlock.cones import edges
 from plainlock.errors import CanNot, NoPlace, Unfit
 from plainlock.forms import goes_up, is_place, is_row, is_tuple_of, tupled
-from plainlock.fractions import ZERO, fraction, is_fraction, is_from_zero, less, negative, sum_of, whole
+from plainlock.fractions import ZERO, is_fraction, is_from_zero, less, negative, sum_of, whole
 from plainlock.weighing import Weighing, unknowns_in, whole_line
 
 # Unknowns are the numbers below this one.

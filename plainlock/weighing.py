@@ -99,14 +99,13 @@ class Outcome:
     """A Table of the rows at these places, pivoted until it tells something of all."""
 
     def __init__(self, rows, many, goal, places):
+        table = Table([rows[place] for place in places], many)
+        table.goal = goal
+        table.free()
         self.places = places
-        self.table = Table([rows[place] for place in places], many)
-        self.table.goal = goal
-        self.is_topped = False
-        self.table.free()
-        self.stuck = self.table.settle()
-        if self.stuck is None and goal is not None:
-            self.is_topped = self.table.rise()
+        self.table = table
+        self.stuck = table.settle()
+        self.is_topped = self.stuck is None and goal is not None and table.rise()
 
 
 def weighed(rows, many, goal):

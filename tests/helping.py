@@ -6,6 +6,10 @@ import importlib
 
 from plainlock import errors
 
+ONE, TWO, SLOPE = (1, 1), (2, 1), ((1, 1), (1, 1))
+# The PLAN of the document's examples.
+LONE = (((0,),), (((8, 1), "all", (0, 1)),), (SLOPE, SLOPE), ((ONE, TWO), (ONE, TWO), (ONE, (3, 1)), (ONE, None)),
+        ((10, 1), "sent", (0, 1), "once", False), ((True, True),), ())
 MODULES = ("errors", "fractions", "sums", "rings", "sheets", "plans", "keepers", "clients")
 
 
@@ -32,6 +36,18 @@ def run_example(test, names, code, told):
         test.assertEqual(repr(eval(code, names)), repr(ast.literal_eval(told)))
     else:
         exec(code, names)
+
+
+def at(whole):
+    return (whole, 1)
+
+
+def bent(value, path, new):
+    """value with new at the end of path; new may be a function of what stood there."""
+    if not path:
+        return new(value) if callable(new) else new
+    place = path[0]
+    return value[:place] + (bent(value[place], path[1:], new),) + value[place + 1:]
 
 
 def listed(value):

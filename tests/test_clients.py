@@ -11,18 +11,11 @@ from plainlock.fractions import plus
 from plainlock.keepers import Keeper
 from plainlock.plans import changed, is_plan
 from tests.facts import Facts
-from tests.helping import listed
+from tests.helping import LONE, at, listed
 
-ONE, TWO, SLOPE = (1, 1), (2, 1), ((1, 1), (1, 1))
-LONE = (((0,),), (((8, 1), "all", (0, 1)),), (SLOPE, SLOPE), ((ONE, TWO), (ONE, TWO), (ONE, (3, 1)), (ONE, None)),
-        ((10, 1), "sent", (0, 1), "once", False), ((True, True),), ())
 # two of three keepers, a fourth in no LOT, two stores of a lock
 MANY = (((0, 1), (0, 2), (1, 2)), LONE[1] * 4) + LONE[2:5] + (LONE[5] * 2,) + LONE[6:]
 K0, K1, K2, K3 = [("keeper", k) for k in range(4)]
-
-
-def at(whole):
-    return (whole, 1)
 
 
 def store(place, lock=0):
@@ -600,6 +593,45 @@ class ByFacts(unittest.TestCase):
                 yield house, ("done", letter[1], letter[2], letter[4], chance.randint(-3, 3))
             if chance.random() < 0.3:
                 yield house, ("stale", letter[1], letter[2], letter[4], (letter[3][0] + 1, 9))
+
+
+class Together(unittest.TestCase):
+    """Clients, a keeper and letters that take one tick or two, by clocks that go alike."""
+
+    def late_looks(self, plan, seed):
+        """How often in a row of events a look was True though a greater number had been told."""
+        chance, late, greatest = random.Random(seed), 0, (0, 0)
+        clients, keeper, post = [Library(plan, c) for c in range(3)], Keeper(plan, 0), []
+        for half in range(400):
+            now = (half, 2) if half % 2 else (half // 2, 1)
+            due = [letter for letter in post if letter[0] <= half]
+            post = [letter for letter in post if letter[0] > half]
+            for _, start, goal, letter in due:
+                if goal == K0:
+                    sent, told = [(("client", letter[2][1]), answer) for answer in keeper.take(now, letter)], ()
+                else:
+                    sent, told = clients[goal[1]].take(now, start, letter)
+                if told and told[0][0] == "told":
+                    self.assertLess(greatest, told[0][2])
+                    greatest = told[0][2]
+                post += [(half + chance.choice((2, 3, 4)), goal, house, answer) for house, answer in sent]
+            for c, client in enumerate(clients):
+                act = ("look", 0) if client.stands(0) else chance.choice((("ask", 0), ("again", 0), ("anew", 0), ("look", 0)))
+                try:
+                    sent, told = client.act(now, act)
+                except CanNot:
+                    continue
+                post += [(half + chance.choice((2, 3, 4)), ("client", c), house, letter) for house, letter in sent]
+                late += told == (("look", 0, True),) and client.number(0) < greatest
+        self.assertGreater(greatest, (3, 0))
+        return late
+
+    def test_long_enough_a_length(self):
+        sure = changed(LONE, ("length", 0), (17, 2))
+        self.assertEqual([self.late_looks(sure, seed) for seed in range(20)], [0] * 20)
+
+    def test_too_short_a_length(self):
+        self.assertGreater(max(self.late_looks(changed(LONE, ("length", 0), at(4)), seed) for seed in range(20)), 0)
 
 
 if __name__ == "__main__":

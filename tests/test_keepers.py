@@ -8,19 +8,12 @@ from plainlock.errors import NoPlace, Unfit
 from plainlock.fractions import less, minus, plus
 from plainlock.keepers import Keeper, asked, fallen, free_from, kept_for, let_go
 from plainlock.plans import changed
-from tests.helping import check_call, listed
+from tests.helping import LONE, at, check_call, listed
 
-ONE, TWO, SLOPE = (1, 1), (2, 1), ((1, 1), (1, 1))
-LONE = (((0,),), (((8, 1), "all", (0, 1)),), (SLOPE, SLOPE), ((ONE, TWO), (ONE, TWO), (ONE, (3, 1)), (ONE, None)),
-        ((10, 1), "sent", (0, 1), "once", False), ((True, True),), ())
-# keeper 0 as above; 1 forgets the holder, 2 lends for ever, 3 both
+# keeper 0 lapses alone; 1 forgets the holder, 2 lends for ever, 3 both
 FOUR = (((0, 1, 2, 3),), (((8, 1), "all", (7, 1)), ((8, 1), "number", (5, 1)), (None, "all", (5, 1)), (None, "number", (5, 1)))) + LONE[2:]
 NEW = (None, None, None, None)
 A, B, C = (1, 0), (1, 1), (2, 0)
-
-
-def at(whole):
-    return (whole, 1)
 
 
 def with_faults(*words):
@@ -265,6 +258,15 @@ class Keepers(unittest.TestCase):
         self.assertEqual(first.take(at(-50), ("ask", 0, A, 1)), [("grant", 0, A, 1)])
         self.assertRaises(Unfit, first.take, at(-51), ("ask", 0, A, 1))
         self.assertEqual(first.take(at(-50), ("ask", 0, A, 1)), [("grant", 0, A, 1)])
+
+    def test_a_fall_tells_its_reading(self):
+        keeper = Keeper(FOUR, 0)
+        keeper.take(at(1), ("ask", 0, A, 1))
+        keeper.fall(at(5))
+        for call in (lambda: keeper.take(at(4), ("ask", 0, A, 1)), lambda: keeper.fall(at(4))):
+            self.assertRaises(Unfit, call)
+        self.assertEqual(keeper.take(at(5), ("ask", 0, A, 1)), [("grant", 0, A, 1)])
+        self.assertEqual(keeper.record(0), (A, A, at(13), None))
 
     def test_copies_and_lists(self):
         plan = listed(FOUR)

@@ -7,11 +7,8 @@ from plainlock.errors import NoPlace, Unfit
 from plainlock.fractions import times
 from plainlock.plans import (
     can_hold, changed, covers, is_plan, longest_belief, same_but_times, scaled, setting, settings, shortest_keep, times_of)
-from tests.helping import check_call, listed
+from tests.helping import LONE, ONE, SLOPE, TWO, bent, check_call, listed
 
-ONE, TWO, SLOPE = (1, 1), (2, 1), ((1, 1), (1, 1))
-LONE = (((0,),), (((8, 1), "all", (0, 1)),), (SLOPE, SLOPE), ((ONE, TWO), (ONE, TWO), (ONE, (3, 1)), (ONE, None)),
-        ((10, 1), "sent", (0, 1), "once", False), ((True, True),), ())
 FULL = (
     ((0, 1), (0, 3), (1,)),
     (((8, 1), "all", (0, 1)), (None, "number", (5, 2)), ((7, 3), "all", ONE), ((0, 1), "number", (0, 1))),
@@ -22,14 +19,6 @@ FULL = (
     ("bare grant", "revives"),
 )
 FAULTS = ("bare grant", "bare release", "forgets", "revives")
-
-
-def bent(value, path, new):
-    """value with new at the end of path; new may be a function of what stood there."""
-    if not path:
-        return new(value) if callable(new) else new
-    place = path[0]
-    return value[:place] + (bent(value[place], path[1:], new),) + value[place + 1:]
 
 
 class Forms(unittest.TestCase):

@@ -1,6 +1,7 @@
 """The rules of the language that can be seen from the text of the package's files."""
 
 import ast
+import builtins
 import os
 import re
 import unittest
@@ -20,7 +21,7 @@ METHODS = set(
     "append clear copy count endswith extend find get index insert isalnum isalpha isdigit islower isspace isupper items join"
     " keys ljust lower lstrip partition pop remove replace reverse rfind rjust rpartition rsplit rstrip setdefault split"
     " splitlines startswith strip update upper values zfill bit_length add discard sort".split())
-BARRED = set(
+BARRED = set(dir(builtins)) | set(
     "mro elements open input law version_info with_traceback add_note register attrgetter breakpoint builtins compile"
     " copyright credits delattr dir eval exec exit gc globals help id importlib license locals methodcaller os quit vars"
     " sys super iter next map filter print getattr hasattr setattr chr float complex hash callable object format".split())
@@ -91,6 +92,11 @@ class Rules(unittest.TestCase):
                     self.check_own(node.module, words)
                     above.setdefault(name[:-3], set()).add(node.module.split(".")[1])
         self.check_no_circle(above)
+
+    def test_no_import_for_nothing(self):
+        for _, _, tree in self.each():
+            imported = {alias.name for node in tree.body if isinstance(node, ast.ImportFrom) for alias in node.names}
+            self.assertLessEqual(imported, {node.id for node in ast.walk(tree) if isinstance(node, ast.Name)})
 
     def check_own(self, module, words):
         """Each word is defined in the very file that is named."""

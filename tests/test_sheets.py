@@ -10,10 +10,9 @@ from plainlock.rings import farthest, is_schedule, ring, schedule
 from plainlock.sheets import (
     bound_for, greatest_between, is_bound, is_no_way, is_play, is_sheet, lines_of, no_way, overlapping, play, web_of, with_ties)
 from plainlock.sums import is_answer, is_lines, is_sum, put_together
-from tests.helping import check_call, listed
+from tests.helping import ONE, SLOPE, TWO, bent, check_call, listed
 
-ZERO, ONE, TWO = (0, 1), (1, 1), (2, 1)
-SLOPE = (ONE, ONE)
+ZERO = (0, 1)
 EMPTY = ((), (), (), (), ())
 # Two houses; letters there and back; one span; one TIE of each kind.
 FULL = (
@@ -26,14 +25,6 @@ FULL = (
 FULL_PLAY = ((ZERO, ZERO), (ONE, (5, 1)), ((3, 2), (3, 2)), (TWO, (13, 2)), ((4, 1), (4, 1)))
 DESK = ((((1, 1), (2, 1)),), (0, 0, 0), (), ((0, 1, (4, 1), None), (0, 2, (0, 1), (6, 1))), ())
 LATE = with_ties(DESK, ((2, 1, (-3, 1)),))
-
-
-def bent(value, path, new):
-    """value with new at the end of path; new may be a function of what stood there."""
-    if not path:
-        return new(value) if callable(new) else new
-    place = path[0]
-    return value[:place] + (bent(value[place], path[1:], new),) + value[place + 1:]
 
 
 def minus_one(x):

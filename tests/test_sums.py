@@ -205,7 +205,7 @@ class Ways(unittest.TestCase):
         chance = random.Random(13)
         seen = {True: 0, False: 0}
         started = time.monotonic()
-        for part, size in ((0.1, 3), (0.1, 10 ** 9), (0.3, 10), (1, 1), (1, 10), (1, 100)):
+        for part, size in ((0.1, 3), (0.1, 10 ** 9), (0.3, 10), (1, 1), (1, 10), (0.5, 40)):
             for many, unknowns in ((100, 44), (120, 50)):
                 lines = random_lines(chance, many, unknowns, part, size)
                 seen[self.check(lines) is None] += 1
@@ -251,6 +251,23 @@ class Extremes(unittest.TestCase):
             self.assertEqual(list(found), sorted(set(found)))
             many += len(found)
         self.assertGreater(many, 100)
+
+    def test_of_differences(self):
+        """LINES that say how far one unknown is above another: their EXTREMES are the ways round, each once."""
+        for many, wanted in ((2, 1), (3, 5), (4, 20), (5, 84)):
+            pairs = list(itertools.permutations(range(many), 2))
+            lines = tuple((tuple(sorted(((x, (-1, 1)), (y, ONE)))), (k, 1)) for k, (x, y) in enumerate(pairs))
+            found = extremes(lines)
+            self.assertEqual(len(found), wanted)
+            self.assertEqual(list(found), sorted(set(found)))
+            for weights in found:
+                steps = [pair for pair, weight in zip(pairs, weights) if weight == ONE]
+                self.assertEqual(len(steps), sum(weight != ZERO for weight in weights))
+                self.assertEqual(len({x for x, _ in steps}), len(steps))
+                self.assertEqual({x for x, _ in steps}, {y for _, y in steps})
+        pairs = list(itertools.permutations(range(4), 2))
+        lines = tuple((tuple(sorted(((x, (-1, 1)), (y, ONE)))), ZERO) for x, y in pairs[:8] + pairs[:2])
+        self.assertEqual(extremes(lines), supports_alone(lines))
 
     def test_tell_whether_there_is_an_answer(self):
         chance = random.Random(16)
