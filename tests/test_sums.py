@@ -5,7 +5,9 @@ import math
 import random
 import time
 import unittest
+from unittest import mock
 
+from plainlock import rough, weighing
 from plainlock.errors import CanNot, NoPlace, Unfit
 from plainlock.fractions import fraction, is_fraction, less, minus, plus, times
 from plainlock.sums import answer, extremes, greatest_of, is_answer, is_lines, is_sum, least_of, put_together, sum_against
@@ -355,6 +357,44 @@ class Tops(unittest.TestCase):
                 self.check(lines, 0, sign, found)
                 seen[found is None] += 1
         self.assertGreater(min(seen.values()), 0)
+
+
+class Guesses(unittest.TestCase):
+    """Whatever a rough table leads to, what is told is right."""
+
+    def test_bad_guesses(self):
+        chance = random.Random(20)
+        seen = {"lost": 0, "held": 0, "answer": 0, "sum": 0, "top": 0, "endless": 0}
+        guess = weighing._from_guess
+
+        def spy(rows, many, goal):
+            found = guess(rows, many, goal)
+            seen["lost" if found is None else "held"] += 1
+            return found
+        for depth, dust in ((320, 120), (12, 5), (9, 6), (6, 1), (3, 2)):
+            with mock.patch.object(rough, "DEPTH", depth), mock.patch.object(rough, "DUST", dust):
+                with mock.patch.object(weighing, "_from_guess", spy):
+                    for _ in range(25):
+                        self.check(chance, seen)
+        self.assertGreater(min(seen.values()), 20, seen)
+
+    def check(self, chance, seen):
+        lines = random_lines(chance, 30, 8, 0.5, chance.choice((2, 5)))
+        if chance.random() < 0.6:
+            lines = tuple((terms, (abs(bound[0]) + 1, bound[1])) for terms, bound in lines[:chance.choice((9, 25, 30))])
+        try:
+            self.assertTrue(is_answer(lines, answer(lines)))
+            seen["answer"] += 1
+        except CanNot:
+            self.assertTrue(is_sum(lines, sum_against(lines)))
+            self.assertRaises(CanNot, greatest_of, lines, 0)
+            seen["sum"] += 1
+            return
+        self.assertRaises(CanNot, sum_against, lines)
+        for call, sign in ((greatest_of, 1), (least_of, -1)):
+            found = call(lines, 0)
+            Tops().check(lines, 0, sign, found)
+            seen["endless" if found is None else "top"] += 1
 
 
 class Calls(unittest.TestCase):
