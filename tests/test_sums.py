@@ -10,6 +10,7 @@ from unittest import mock
 from plainlock import rough, weighing
 from plainlock.errors import CanNot, NoPlace, Unfit
 from plainlock.fractions import fraction, is_fraction, less, minus, plus, times
+from plainlock.rings import ring, schedule
 from plainlock.sums import answer, extremes, greatest_of, is_answer, is_lines, is_sum, least_of, put_together, sum_against
 from tests.helping import check_call, listed
 
@@ -183,6 +184,23 @@ class Ways(unittest.TestCase):
             lines = random_lines(chance, chance.randint(0, 9), chance.randint(1, 5), chance.choice((0.3, 0.6, 1)),
                                  chance.choice((1, 2, 5, 50)))
             seen[self.check(lines) is None] += 1
+        self.assertGreater(min(seen.values()), 50)
+
+    def test_differences_by_chance(self):
+        """LINES that leave all unknowns free to move together, against the WEBS of the same differences."""
+        chance = random.Random(10)
+        seen = {True: 0, False: 0}
+        for size in (3, 4, 6, 9, 30):
+            for _ in range(60):
+                ties = [tuple(chance.sample(range(size), 2)) + ((chance.randint(-3, 6), 2),) for _ in range(chance.randint(1, 2 * size))]
+                ties = tuple((x, y, fraction(*most)) for x, y, most in ties)
+                lines = tuple((tuple(sorted(((x, (-1, 1)), (y, ONE)))), most) for x, y, most in ties)
+                is_kept = self.check(lines) is not None
+                seen[is_kept] += 1
+                if is_kept:
+                    schedule((size, ties))
+                else:
+                    ring((size, ties))
         self.assertGreater(min(seen.values()), 50)
 
     def test_tight_by_chance(self):
