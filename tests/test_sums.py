@@ -396,6 +396,19 @@ class Guesses(unittest.TestCase):
                         self.check(chance, seen)
         self.assertGreater(min(seen.values()), 20, seen)
 
+    def test_false_guesses(self):
+        chance = random.Random(9)
+        seen = {"answer": 0, "sum": 0, "top": 0, "endless": 0}
+        lies = (("rise", False), ("rise", True), ("settle", None), ("settle", 0), ("settle", 3))
+        for name, lie in lies:
+            with mock.patch.object(rough.Rough, name, lambda table: lie):
+                for _ in range(20):
+                    self.check(chance, seen)
+        with mock.patch.object(rough.Rough, "pivot", side_effect=rough.Lost()):
+            for _ in range(20):
+                self.check(chance, seen)
+        self.assertGreater(min(seen.values()), 10, seen)
+
     def check(self, chance, seen):
         lines = random_lines(chance, 30, 8, 0.5, chance.choice((2, 5)))
         if chance.random() < 0.6:
