@@ -106,6 +106,14 @@ class Keeper:
         # Falls are of all locks together, also of those not heard of yet.
         self._unheard = NEW
 
+    def twin(self):
+        """Another one that stands as this one does."""
+        new = Keeper(self._plan, self._keeper)
+        new._reading = self._reading
+        new._kept = dict(self._kept)
+        new._unheard = self._unheard
+        return new
+
     def take(self, reading, letter):
         """What it answers to a client's letter, a list; Unfit() if reading is less than the last one."""
         reading, letter = self._next(reading), tupled(letter)

@@ -94,6 +94,52 @@ raises NoPlace(place=1)
 >>> some.act((11, 1), ("again", 2))
 raises CanNot()
 """,
+    11: """
+>>> box = Store(lone, 2, 0)
+>>> box.take(("deed", 2, 0, (3, 7), 2, ("put", 5)))
+(("done", 2, 0, 2, 0), ((3, 7), 2, ("put", 5), 0))
+>>> box.take(("deed", 2, 0, (3, 7), 2, ("put", 5))), box.take(("deed", 2, 0, (2, 9), 1, ("get",)))
+((None, None), (("stale", 2, 0, 1, (3, 7)), None))
+>>> box.take(("seal", 2, 0, (4, 1))), box.take(("deed", 2, 0, (3, 7), 3, ("get",)))
+((("sealed", 2, 0, (4, 1)), None), (("stale", 2, 0, 3, (4, 1)), None))
+>>> box.value(), box.greatest()
+(5, (4, 1))
+""",
+    12: """
+>>> me, keep, shop = ("client", 0), ("keeper", 0), ("store", 0, 0)
+>>> run = ((me, (0, 1), (5, 1), ("ask", 0)), (keep, (1, 1), (0, 1), ("take", 0)), (me, (2, 1), (7, 1), ("take", 1)), (me, (3, 1), (8, 1), ("deed", 0, 0, ("put", 4))), (me, (3, 1), (8, 1), ("send",)), (shop, (4, 1), None, ("take", 4)))
+>>> first_broken(lone, run), first_broken(lone, run[1:]), sent(lone, run)[1]
+(None, (0, 'letter'), ((('client', 0), ('grant', 0, (1, 0), 1)),))
+>>> telling(lone, run)
+((('client', 0), (('ask', 0), ('told', 0, (1, 0)), ('deed', 0, 0, (1, 0), 2, ('put', 4)))), (('store', 0, 0), (((1, 0), 2, ('put', 4), 0),)))
+>>> first_broken(lone, run + ((me, (9, 2), (21, 2), ("look", 0)),)), first_broken(lone, run[:5] + ((shop, (7, 1), None, ("take", 4)),))
+((6, 'clock'), (5, 'leg'))
+>>> Machine(lone).play((me, (0, 1), (5, 1), ("send",)))
+raises Broken(word='act')
+""",
+    13: """
+>>> two_of = ((0, 1), (0, 2), (1, 2))
+>>> meets(two_of, (0, 1, 2)), not_meeting(two_of, (0, 1)), fewest_apart(two_of, (0, 1, 2))
+(True, ((0, 2), (1, 2)), ((0, 1), (0, 2), (1, 2)))
+>>> better(((0, 1), (0, 2)), (0, 1, 2), 3), cover(3, ((0,), (1,), (2,)), ((0,),))
+((0,), ((1,), (2,), (0,)))
+>>> grants = (("grant", 2, 1), ("grant", 0, 1), ("grant", 0, 0), ("grant", 1, 0), ("grant", 1, 2), ("grant", 2, 2))
+>>> deeds = (("deed", 0, 0), ("deed", 1, 0), ("deed", 1, 1), ("deed", 2, 1), ("deed", 2, 2), ("deed", 0, 2))
+>>> ticket_rows(two_of, (0, 1, 2), ((0, 1, 2), grants + deeds))
+((0, 1), (1, 2), (2, 0))
+>>> order_of(((0, 1), (1, 2), (2, 0)))
+raises CanNot()
+""",
+    14: """
+>>> way = ((0,), (0,), 0, "lapse")
+>>> hows(lone, 0), overlap(lone, way, "look"), overlap(lone, way, "store"), overlap(lone, ((0,), (0,), 0, "release"), "look")
+(('lapse', 'release'), (0, 1), (2, 1), (-2, 1))
+>>> sure = changed(lone, ("length", 0), (17, 2))
+>>> widest(sure, (0,), (0,), "look"), open_pairs(sure, "look"), open_pairs(sure, "store")
+((-1, 2), (), (((0,), (0,)),))
+>>> way_ends(lone, way, "look"), greatest_between(sheet(sure, way, "look"), 5, 3)
+((5, 3), (-1, 2))
+""",
 }
 
 
@@ -108,7 +154,7 @@ class Examples(unittest.TestCase):
     def test_none_is_left_out(self):
         many = sum(len(list(steps(text))) for text in EXAMPLES.values())
         self.assertEqual(many, sum(text.count(">>> ") for text in EXAMPLES.values()))
-        self.assertEqual(sorted(EXAMPLES), list(range(4, 11)))
+        self.assertEqual(sorted(EXAMPLES), list(range(4, 15)))
 
 
 def steps(text):

@@ -200,6 +200,11 @@ INTERFACE = {
     "plans": "is_plan settings times_of setting changed scaled longest_belief shortest_keep can_hold same_but_times covers",
     "keepers": "asked let_go fallen free_from kept_for Keeper:take,fall,turn,record",
     "clients": "Library:twin,act,take,number,stands,last",
+    "stores": "Store:twin,take,fall,turn,value,greatest",
+    "runs": "is_events is_run first_broken sent telling merged Machine:play,run,row,record,twin",
+    "lots": "is_roster is_ticket_run is_circle shared meets not_meeting had fewest_apart ticket_rows order_of circle_of"
+            " circle_run better roster_for cover",
+    "ways": "hows ways overlap sheet way_ends shut_sum widest open_pairs late_look open_run",
 }
 
 
@@ -226,7 +231,8 @@ def local_names(node):
 
 
 def all_locals(tree):
-    return {name for node in ast.walk(tree) if isinstance(node, ast.FunctionDef) for name in local_names(node)}
+    caught = {node.name for node in ast.walk(tree) if isinstance(node, ast.ExceptHandler)}
+    return caught | {name for node in ast.walk(tree) if isinstance(node, ast.FunctionDef) for name in local_names(node)}
 
 
 def names_in(node):

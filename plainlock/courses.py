@@ -1,0 +1,66 @@
+"""Courses: what two clients, keepers and stores do at set moments, made a RUN of it."""
+
+from plainlock.fractions import less, minus, times
+from plainlock.runs import Machine
+
+
+class Course:
+    """Acts of houses at moments; ("get", word, house, moment) takes the letter sent then.
+
+    Of acts at one moment the one that was added first comes first. Clients'
+    readings are slow times the moment, keepers' fast times it.
+    """
+
+    def __init__(self, plan):
+        self._plan = plan
+        self._acts = []
+
+    def add(self, moment, house, act):
+        """A house does this at this moment."""
+        self._acts.append((moment, house, act))
+
+    def get(self, moment, house, word, sender, start):
+        """A house takes the letter with this word that sender sent it at the moment start."""
+        self._acts.append((moment, house, ("get", word, sender, start)))
+
+    def run(self):
+        """The RUN of all that was added, from the moment 0 on."""
+        machine = Machine(self._plan)
+        acts = _sorted(self._acts)
+        begin = acts[0][0]
+        for moment, house, act in acts:
+            if act[0] == "get":
+                act = ("take", _sending(machine, house, act[1], act[2], minus(act[3], begin)))
+            moment = minus(moment, begin)
+            machine.play((house, moment, reading_at(self._plan, house, moment), act))
+        return machine.run()
+
+
+def reading_at(plan, house, moment):
+    """slow times the moment at a client, fast times it at a keeper, None at a store."""
+    if house[0] == "store":
+        return None
+    return times(plan[2][0][0] if house[0] == "client" else plan[2][1][1], moment)
+
+
+def _sorted(acts):
+    """acts by their moments, those of one moment in their order."""
+    found = []
+    for act in acts:
+        at = len(found)
+        while at > 0 and less(act[0], found[at - 1][0]):
+            at -= 1
+        found.insert(at, act)
+    return found
+
+
+def _sending(machine, house, word, sender, start):
+    """The number of the newest EVENT at which sender sent such a letter to house at this moment."""
+    letters = machine.letters()
+    found = None
+    for number, event in enumerate(machine.run()):
+        if event[0] == sender and event[1] == start:
+            for other, letter in letters[number]:
+                if other == house and letter[0] == word:
+                    found = number
+    return found

@@ -1,0 +1,162 @@
+"""PLANS, RUNS and FRACTIONS that tests draw, always the same for the same seed."""
+
+from plainlock.errors import Broken
+from plainlock.fractions import ZERO, fraction, less, minus, plus, times
+from plainlock.plans import is_plan
+from plainlock.runs import Machine
+
+FAULTS = ("bare grant", "bare release", "forgets", "revives")
+
+
+def a_fraction(draw, low, high, below=4):
+    """A FRACTION from low to high."""
+    d = draw.randint(1, below)
+    return fraction(draw.randint(low * d, high * d), d)
+
+
+def a_leg(draw, high=3):
+    least = fraction(draw.randint(1, 4), draw.randint(1, 3))
+    if draw.random() < 0.15:
+        return (least, None)
+    return (least, plus(least, a_fraction(draw, 0, high)))
+
+
+def a_clock(draw):
+    if draw.random() < 0.4:
+        return ((1, 1), (1, 1))
+    return (fraction(draw.randint(2, 4), 4), fraction(draw.randint(4, 6), 4))
+
+
+def a_lot(draw, many):
+    lot = tuple(k for k in range(many) if draw.random() < 0.6)
+    return lot or (draw.randrange(many),)
+
+
+def some_lots(draw, many, most=3):
+    return tuple(sorted({a_lot(draw, many) for _ in range(draw.randint(1, most))}))
+
+
+def a_keeper(draw):
+    length = None if draw.random() < 0.25 else a_fraction(draw, 0, 12)
+    return (length, draw.choice(("all", "all", "number")), a_fraction(draw, 0, 12))
+
+
+def some_faults(draw, share=0.5):
+    if draw.random() < share:
+        return ()
+    return tuple(sorted(draw.sample(FAULTS, draw.randint(1, 2))))
+
+
+def a_plan(draw, keepers=None, stores=None, faults=None, **parts):
+    """A PLAN; parts: what its library is to have, by name."""
+    many = keepers or draw.randint(1, 4)
+    sealed = parts.get("sealed", draw.random() < 0.3)
+    if faults is None:
+        faults = () if sealed else some_faults(draw)
+    stop = None if draw.random() < 0.2 else a_fraction(draw, 0, 3)
+    library = (a_fraction(draw, 0, 14), parts.get("counts", draw.choice(("sent", "taken"))), parts.get("stop", stop),
+               parts.get("releases", draw.choice(("once", "waits"))), sealed)
+    if stores is None:
+        stores = tuple((draw.random() < 0.6, draw.random() < 0.7) for _ in range(draw.randint(1, 2)))
+    plan = (some_lots(draw, many), tuple(a_keeper(draw) for _ in range(many)), (a_clock(draw), a_clock(draw)),
+            tuple(a_leg(draw) for _ in range(4)), library, stores, faults)
+    assert is_plan(plan), plan
+    return plan
+
+
+class Player:
+    """Plays EVENTS of a PLAN, or of a pair, that are drawn; each of them such that it is let."""
+
+    def __init__(self, draw, plan, clients=2, locks=1):
+        self.draw, self.plan, self.locks = draw, plan, locks
+        self.one = plan[0] if len(plan) == 2 else plan
+        self.machine = Machine(plan)
+        self.moment = ZERO
+        self.last = {}
+        self.clients = [("client", c) for c in range(clients)]
+        self.loose = []
+        self.known = 0
+
+    def readings(self, house, moment):
+        """What the reading of this house can be now: least, most; None if any."""
+        if house not in self.last:
+            return None
+        slow, fast = self.one[2][0 if house[0] == "client" else 1]
+        ahead, reading = self.last[house]
+        time = minus(moment, ahead)
+        return plus(reading, times(slow, time)), plus(reading, times(fast, time))
+
+    def play(self, house, act):
+        """Whether it could be played now."""
+        reading = None
+        if house[0] != "store":
+            span = self.readings(house, self.moment)
+            if span is None:
+                reading = a_fraction(self.draw, -5, 5)
+            else:
+                reading = self.draw.choice((span[0], span[0], span[1], fraction_between(self.draw, span)))
+        try:
+            self.machine.play((house, self.moment, reading, act))
+        except Broken:
+            return False
+        if reading is not None:
+            self.last[house] = (self.moment, reading)
+        number = len(self.machine.run()) - 1
+        for other, letter in self.machine.letters()[number]:
+            self.loose.append((number, self.moment, house, other))
+        return True
+
+    def act(self, house):
+        """An act of a client that may be let."""
+        lock = self.draw.randrange(self.locks)
+        place = self.draw.randrange(len(self.one[5]))
+        what = self.draw.choice((("get",), ("put", self.draw.randint(0, 3))))
+        return self.draw.choice((
+            ("ask", lock), ("ask", lock), ("again", lock), ("anew", lock), ("not now", lock), ("release", lock), ("look", lock),
+            ("look", lock), ("deed", lock, place, what), ("deed", lock, place, what), ("send",), ("send",)))
+
+    def step(self):
+        if self.loose and self.draw.random() < 0.75:
+            return self.deliver()
+        if self.draw.random() < 0.15:
+            self.moment = plus(self.moment, a_fraction(self.draw, 0, 3))
+        roll = self.draw.random()
+        if roll < 0.06:
+            self.play(("keeper", self.draw.randrange(len(self.one[1]))), ("fall",))
+        elif roll < 0.10:
+            self.play(("store", self.draw.randrange(self.locks), self.draw.randrange(len(self.one[5]))), ("fall",))
+        elif roll < 0.16 and len(self.plan) == 2:
+            self.play(("keeper", self.draw.randrange(len(self.one[1]))), ("switch",))
+        elif roll < 0.20 and len(self.plan) == 2:
+            self.play(self.draw.choice(self.clients), ("start",))
+        else:
+            house = self.draw.choice(self.clients)
+            self.play(house, self.act(house))
+
+    def deliver(self):
+        at = self.draw.randrange(len(self.loose))
+        number, start, sender, house = self.loose[at]
+        kinds = {("client", "keeper"): 0, ("keeper", "client"): 1, ("client", "store"): 2, ("store", "client"): 3}
+        least, most = self.one[3][kinds[(sender[0], house[0])]]
+        moment = plus(start, least)
+        if less(moment, self.moment):
+            moment = self.moment
+        self.moment = moment
+        self.play(house, ("take", number))
+        if self.draw.random() < 0.9:
+            self.loose.pop(at)
+
+    def run(self, many):
+        for _ in range(many):
+            self.step()
+        return self.machine.run()
+
+
+def fraction_between(draw, span):
+    low, high = span
+    return plus(low, times(minus(high, low), fraction(draw.randint(0, 4), 4)))
+
+
+def a_run(draw, plan, many=40, clients=2, locks=1):
+    """A RUN of plan."""
+    return Player(draw, plan, clients, locks).run(many)
