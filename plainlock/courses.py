@@ -5,35 +5,43 @@ from plainlock.runs import Machine
 
 
 class Course:
-    """Acts of houses at moments; ("get", word, house, moment) takes the letter sent then.
+    """Acts of houses at moments; ("fetch", word, house, moment) takes the letter sent then.
 
     Of acts at one moment the one that was added first comes first. Clients'
     readings are slow times the moment, keepers' fast times it.
     """
 
     def __init__(self, plan):
+        self.machine = Machine(plan)
         self._plan = plan
         self._acts = []
+        # What was the first moment is the moment 0 of the RUN.
+        self._begin = None
 
-    def add(self, moment, house, act):
+    def put(self, moment, house, act):
         """A house does this at this moment."""
         self._acts.append((moment, house, act))
 
-    def get(self, moment, house, word, sender, start):
+    def fetch(self, moment, house, word, sender, start):
         """A house takes the letter with this word that sender sent it at the moment start."""
-        self._acts.append((moment, house, ("get", word, sender, start)))
+        self._acts.append((moment, house, ("fetch", word, sender, start)))
+
+    def play(self):
+        """Play all that was added, which is not ahead of what was played."""
+        acts = _sorted(self._acts)
+        self._acts = []
+        for moment, house, act in acts:
+            if self._begin is None:
+                self._begin = moment
+            if act[0] == "fetch":
+                act = ("take", _sending(self.machine, house, act[1], act[2], minus(act[3], self._begin)))
+            moment = minus(moment, self._begin)
+            self.machine.play((house, moment, reading_at(self._plan, house, moment), act))
 
     def run(self):
-        """The RUN of all that was added, from the moment 0 on."""
-        machine = Machine(self._plan)
-        acts = _sorted(self._acts)
-        begin = acts[0][0]
-        for moment, house, act in acts:
-            if act[0] == "get":
-                act = ("take", _sending(machine, house, act[1], act[2], minus(act[3], begin)))
-            moment = minus(moment, begin)
-            machine.play((house, moment, reading_at(self._plan, house, moment), act))
-        return machine.run()
+        """The RUN of all that was added."""
+        self.play()
+        return self.machine.run()
 
 
 def reading_at(plan, house, moment):

@@ -1,10 +1,10 @@
 """LOTS of keepers: which rosters of them are right, by tickets alone, without clocks."""
 
-from heapq import heapify, heappop, heappush
 from itertools import combinations
 
 from plainlock.errors import CanNot, Unfit
 from plainlock.forms import goes_up, is_count, is_place, is_row, is_tuple_of, tupled
+from plainlock.graphs import least_order, some_circle
 
 # Keepers and stores are numbers below these here.
 KEEPERS = 7
@@ -150,60 +150,30 @@ def _takes(known, own):
 
 def order_of(rows):
     """The least ORDER of DEED ROWS; CanNot() if there is none."""
-    later, waits = _links(rows)
-    free = [hold for hold in waits if waits[hold] == 0]
-    heapify(free)
-    found = []
-    while free:
-        hold = heappop(free)
-        found.append(hold)
-        for other in later[hold]:
-            waits[other] -= 1
-            if waits[other] == 0:
-                heappush(free, other)
-    if len(found) < len(waits):
+    order = least_order(_links(rows))
+    if order is None:
         raise CanNot()
-    return tuple(found)
-
-
-def _links(rows):
-    """For each hold those right behind it in some row, as dicts, and of how many it is one."""
-    later, waits = {}, {}
-    for row in rows:
-        for hold in row:
-            later.setdefault(hold, {})
-            waits.setdefault(hold, 0)
-        for one, other in zip(row, row[1:]):
-            if one != other and other not in later[one]:
-                later[one][other] = True
-                waits[other] += 1
-    return later, waits
+    return tuple(order)
 
 
 def circle_of(rows):
     """A CIRCLE of DEED ROWS; CanNot() if there is none."""
-    later, waits = _links(rows)
-    free = [hold for hold in waits if waits[hold] == 0]
-    while free:
-        hold = free.pop()
-        for other in later.pop(hold):
-            waits[other] -= 1
-            if waits[other] == 0:
-                free.append(other)
-    if not later:
+    circle = some_circle(_links(rows))
+    if circle is None:
         raise CanNot()
-    # Each hold that is left has one that is left right ahead of it.
-    ahead = {}
-    for hold in later:
-        for other in later[hold]:
-            ahead[other] = hold
-    way, places = [], {}
-    here = min(list(later))
-    while here not in places:
-        places[here] = len(way)
-        way.append(here)
-        here = ahead[here]
-    return tuple(reversed(way[places[here]:]))
+    return circle
+
+
+def _links(rows):
+    """For each hold a dict of those right behind it in some row."""
+    later = {}
+    for row in rows:
+        for hold in row:
+            later.setdefault(hold, {})
+        for one, other in zip(row, row[1:]):
+            if one != other:
+                later[one][other] = True
+    return later
 
 
 def circle_run(roster, kept):

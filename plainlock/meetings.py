@@ -43,21 +43,21 @@ class Meeting:
 
     def number(self, client, count, moment):
         """The client asks, and again anew, up to a NUMBER of this count."""
-        self.course.add(moment, client, ("ask", 0))
+        self.course.put(moment, client, ("ask", 0))
         for _ in range(count - 1):
-            self.course.add(moment, client, ("anew", 0))
+            self.course.put(moment, client, ("anew", 0))
 
-    def granted(self, keepers, client, start):
+    def take_ask(self, keepers, client, start):
         """The keepers take the ask sent at start as soon as can be."""
         moment = plus(start, self.least[0])
         for keeper in keepers:
-            self.course.get(moment, ("keeper", keeper), "ask", client, start)
+            self.course.fetch(moment, ("keeper", keeper), "ask", client, start)
         return moment
 
     def believes(self, keepers, client, start, moment):
         """The client takes at this moment the grants sent at start."""
         for keeper in self.last_first(keepers):
-            self.course.get(moment, client, "grant", ("keeper", keeper), start)
+            self.course.fetch(moment, client, "grant", ("keeper", keeper), start)
 
     def last_first(self, keepers):
         """The keepers in an order in which, if it can be, only all of them are a LOT."""
@@ -70,14 +70,14 @@ class Meeting:
     def deed(self, client, moment, stop, late):
         """The client's deed, let at this moment, sent at stop, taken at late."""
         store = ("store", 0, self.place)
-        self.course.add(moment, client, ("deed", 0, self.place, ("put", client[1])))
-        self.course.add(stop, client, ("send",))
-        self.course.get(late, store, "deed", client, stop)
+        self.course.put(moment, client, ("deed", 0, self.place, ("put", client[1])))
+        self.course.put(stop, client, ("send",))
+        self.course.fetch(late, store, "deed", client, stop)
 
     def looks(self, moment):
         """The lesser hold's late look, or its deed, as soon as that can be done."""
         if self.place is None:
-            self.course.add(moment, LESSER, ("look", 0))
+            self.course.put(moment, LESSER, ("look", 0))
         else:
             self.deed(LESSER, moment, moment, plus(moment, self.least[2]))
 
@@ -90,18 +90,18 @@ class LateGrant(Meeting):
     """A bare grant for a number let go comes late, and counts for the next one."""
 
     def play(self):
-        self.course.add(ZERO, LESSER, ("ask", 0))
-        self.course.add(ZERO, LESSER, ("not now", 0))
+        self.course.put(ZERO, LESSER, ("ask", 0))
+        self.course.put(ZERO, LESSER, ("not now", 0))
         self.number(GREATER, 3, ZERO)
-        moment = self.granted(self.lot, LESSER, ZERO)
+        moment = self.take_ask(self.lot, LESSER, ZERO)
         for keeper in self.common:
-            self.course.get(moment, ("keeper", keeper), "release", LESSER, ZERO)
-        self.granted(self.other, GREATER, ZERO)
+            self.course.fetch(moment, ("keeper", keeper), "release", LESSER, ZERO)
+        self.take_ask(self.other, GREATER, ZERO)
         # With an ask that is newest just now it believes, whatever the term is.
-        self.course.add(self.round, GREATER, ("again", 0))
+        self.course.put(self.round, GREATER, ("again", 0))
         self.believes(self.other, GREATER, moment, self.round)
         self.deed_of_greater(self.round)
-        self.course.add(self.round, LESSER, ("ask", 0))
+        self.course.put(self.round, LESSER, ("ask", 0))
         self.believes(self.lot, LESSER, moment, self.round)
         self.looks(self.round)
 
@@ -111,15 +111,15 @@ class Forgotten(Meeting):
 
     def play(self):
         self.number(GREATER, 2, ZERO)
-        moment = self.granted(self.other, GREATER, ZERO)
+        moment = self.take_ask(self.other, GREATER, ZERO)
         for keeper in self.common:
-            self.course.add(moment, ("keeper", keeper), ("fall",))
+            self.course.put(moment, ("keeper", keeper), ("fall",))
         self.believes(self.other, GREATER, moment, self.round)
         self.deed_of_greater(self.round)
         quiet = greatest([self._plan[1][keeper][2] for keeper in self.lot])
         start = over(quiet, self._plan[2][1][1])
         self.number(LESSER, 1, start)
-        moment = self.granted(self.lot, LESSER, start)
+        moment = self.take_ask(self.lot, LESSER, start)
         late = plus(moment, self.least[1])
         self.believes(self.lot, LESSER, moment, late)
         self.looks(late)
@@ -130,20 +130,20 @@ class Revived(Meeting):
 
     def play(self):
         self.number(GREATER, 2, ZERO)
-        moment = self.granted(self.other, GREATER, ZERO)
+        moment = self.take_ask(self.other, GREATER, ZERO)
         self.believes(self.other, GREATER, moment, self.round)
         self.deed_of_greater(self.round)
-        self.course.add(self.round, GREATER, ("release", 0))
+        self.course.put(self.round, GREATER, ("release", 0))
         start = self.round
         if self.place is not None and self._plan[4][3] == "waits":
             taken = plus(start, self.least[2])
             start = plus(taken, self.least[3])
-            self.course.get(start, GREATER, "done", ("store", 0, self.place), taken)
+            self.course.fetch(start, GREATER, "done", ("store", 0, self.place), taken)
         moment = plus(start, self.least[0])
         for keeper in self.common:
-            self.course.get(moment, ("keeper", keeper), "release", GREATER, start)
+            self.course.fetch(moment, ("keeper", keeper), "release", GREATER, start)
         self.number(LESSER, 1, start)
-        self.granted(self.lot, LESSER, start)
+        self.take_ask(self.lot, LESSER, start)
         late = plus(moment, self.least[1])
         self.believes(self.lot, LESSER, moment, late)
         self.looks(late)
@@ -167,9 +167,9 @@ class Ended(Meeting):
             self.late_deed()
         self.tell_greater()
         if self.place is None:
-            self.course.add(ZERO, LESSER, ("look", 0))
+            self.course.put(ZERO, LESSER, ("look", 0))
         else:
-            self.course.get(self.late, ("store", 0, self.place), "deed", LESSER, self.sent)
+            self.course.fetch(self.late, ("store", 0, self.place), "deed", LESSER, self.sent)
 
     def set_moments(self):
         """When the lesser hold is asked for, granted and believed, its deed sent and taken."""
@@ -234,7 +234,7 @@ class Ended(Meeting):
         told = least([self.asked, self.wanted])
         start = minus(told, plus(self.round, self.sealing))
         self.number(LESSER, 1, start)
-        moment = self.granted(self.lot, LESSER, start)
+        moment = self.take_ask(self.lot, LESSER, start)
         self.believes(self.lot, LESSER, moment, plus(start, self.round))
         self.seal(self.lot, LESSER, plus(start, self.round))
 
@@ -244,45 +244,45 @@ class Ended(Meeting):
         taken = plus(start, self.least[2])
         stores = [("store", 0, place) for place in range(len(self._plan[5]))]
         for store in stores:
-            self.course.get(taken, store, "seal", client, start)
+            self.course.fetch(taken, store, "seal", client, start)
         again = minus(told, self.round)
-        self.course.add(again, client, ("again", 0))
-        self.believes(keepers, client, self.granted(keepers, client, again), told)
+        self.course.put(again, client, ("again", 0))
+        self.believes(keepers, client, self.take_ask(keepers, client, again), told)
         for store in stores:
-            self.course.get(told, client, "sealed", store, taken)
+            self.course.fetch(told, client, "sealed", store, taken)
 
     def ask_lesser(self):
         """The lesser hold as it is believed at its look, and what ends it right behind its grants."""
         if self._plan[4][4]:
-            self.course.add(self.asked, LESSER, ("again", 0))
+            self.course.put(self.asked, LESSER, ("again", 0))
         else:
             if self.uses("elder release"):
-                self.course.add(self.asked, LESSER, ("ask", 0))
-                self.course.add(self.asked, LESSER, ("not now", 0))
-            self.course.add(self.asked, LESSER, ("ask", 0))
-        self.granted(self.lot, LESSER, self.asked)
+                self.course.put(self.asked, LESSER, ("ask", 0))
+                self.course.put(self.asked, LESSER, ("not now", 0))
+            self.course.put(self.asked, LESSER, ("ask", 0))
+        self.take_ask(self.lot, LESSER, self.asked)
         for keeper in self.common:
             house, how = ("keeper", keeper), self.ends[keeper][1]
             if how == "fall":
-                self.course.add(self.grants, house, ("fall",))
+                self.course.put(self.grants, house, ("fall",))
             if how == "elder release":
-                self.course.get(self.grants, house, "release", LESSER, self.asked)
+                self.course.fetch(self.grants, house, "release", LESSER, self.asked)
         self.believes(self.lot, LESSER, self.grants, self.believed)
 
     def late_deed(self):
         """The deed of the lesser hold, and behind it, where some keeper needs that, its release."""
-        self.course.add(ZERO, LESSER, ("deed", 0, self.place, ("put", 0)))
-        self.course.add(self.sent, LESSER, ("send",))
+        self.course.put(ZERO, LESSER, ("deed", 0, self.place, ("put", 0)))
+        self.course.put(self.sent, LESSER, ("send",))
         if self.uses("release"):
-            self.course.add(self.sent, LESSER, ("release", 0))
+            self.course.put(self.sent, LESSER, ("release", 0))
             for keeper in self.common:
                 if self.ends[keeper][1] == "release":
-                    self.course.get(self.ends[keeper][0], ("keeper", keeper), "release", LESSER, self.sent)
+                    self.course.fetch(self.ends[keeper][0], ("keeper", keeper), "release", LESSER, self.sent)
 
     def tell_greater(self):
         """The greater number is asked for, granted, told, and its deed done."""
         self.number(GREATER, 3 if self.uses("elder release") else 2, self.wanted)
-        self.granted(self.other, GREATER, self.wanted)
+        self.take_ask(self.other, GREATER, self.wanted)
         self.believes(self.other, GREATER, self.passed, self.taken)
         if self._plan[4][4]:
             self.seal(self.other, GREATER, self.taken)

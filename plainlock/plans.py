@@ -158,6 +158,11 @@ def changed(plan, name, value):
     return new
 
 
+def replaced(plan, name, value):
+    """plan with value at name, one of its SETTINGS, be that a PLAN or not."""
+    return _with(plan, _path(plan, name), value)
+
+
 def scaled(plan, factor):
     """plan with all TIMES times factor; Unfit() unless that is above 0."""
     if not less(ZERO, factor):

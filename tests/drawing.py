@@ -2,6 +2,7 @@
 
 from plainlock.errors import Broken
 from plainlock.fractions import ZERO, fraction, less, minus, plus, times
+from plainlock.locks import PlainLock, first_barred
 from plainlock.plans import is_plan
 from plainlock.runs import Machine
 
@@ -160,3 +161,103 @@ def fraction_between(draw, span):
 def a_run(draw, plan, many=40, clients=2, locks=1):
     """A RUN of plan."""
     return Player(draw, plan, clients, locks).run(many)
+
+
+class Steps:
+    """STEPS of the plain lock that are drawn, each of them such that it is let."""
+
+    def __init__(self, draw, clients=3, locks=2, places=2):
+        self.draw, self.clients, self.locks, self.places = draw, clients, locks, places
+        self.steps, self.lock = [], PlainLock()
+        self.serials = {}
+        self.open = []
+
+    def put(self, *steps):
+        """Whether these STEPS are let; they are played then."""
+        if first_barred(tuple(self.steps) + steps) is not None:
+            return False
+        for step in steps:
+            self.lock.play(step)
+        self.steps.extend(steps)
+        return True
+
+    def deed(self, client, lock):
+        """The entry of a deed of what stands, or None."""
+        number = self.lock.what_stands(client, lock)
+        serial = self.lock.listener(client).serial + self.draw.randint(1, 3)
+        what = self.draw.choice((("get",), ("put", self.draw.randint(-2, 2))))
+        return number and ("deed", lock, self.draw.randrange(self.places), number, serial, what)
+
+    def number(self, client, lock):
+        """A NUMBER above all that were granted."""
+        return (self.lock.granted.get(lock, (0, 0))[0] + self.draw.randint(0, 2), client)
+
+    def quiet(self):
+        draw, client, lock = self.draw, self.draw.randrange(self.clients), self.draw.randrange(self.locks)
+        roll = draw.random()
+        if roll < 0.35:
+            number = self.number(client, lock)
+            if self.lock.holder(lock) is not None and draw.random() < 0.4:
+                self.put(("end", lock))
+            return self.put((client, ("ask", lock))) if draw.random() < 0.6 else self.put(
+                ("grant", lock, number), (client, ("told", lock, number)))
+        if roll < 0.6:
+            deed = self.deed(client, lock)
+            if deed is None:
+                return False
+            answer = self.lock.integers.get(deed[1:3], 0)
+            return self.put((client, deed, answer), (client, ("done",) + deed[1:3] + (deed[4], answer)))
+        if roll < 0.66:
+            return self.put(("end", lock))
+        return self.put((client, draw.choice((("look", lock, True), ("look", lock, True), ("look", lock, False), ("released", lock),
+                                              ("not held", lock, draw.randrange(self.places))))))
+
+    def any(self):
+        """A STEP of any kind."""
+        draw, client, lock = self.draw, self.draw.randrange(self.clients), self.draw.randrange(self.locks)
+        roll = draw.random()
+        if roll < 0.15:
+            return self.put((client, ("ask", lock)))
+        if roll < 0.3:
+            return self.put(("grant", lock, self.number(client, lock)))
+        if roll < 0.45:
+            number = self.lock.promised.get((client, lock))
+            return number is not None and self.put((client, ("told", lock, number)))
+        if roll < 0.5:
+            return self.put(("end", lock))
+        if roll < 0.7:
+            deed = self.deed(client, lock)
+            if deed is None:
+                return False
+            self.open.append((client, deed))
+            if draw.random() < 0.5 and self.put((client, deed, self.lock.integers.get(deed[1:3], 0))):
+                return True
+            return self.put((client, deed))
+        if roll < 0.85 and self.open:
+            client, deed = draw.choice(self.open)
+            answer = self.lock.done.get((client,) + deed[1:3] + (deed[4],))
+            if answer is None:
+                return self.put((client, ("stale",) + deed[1:3] + (deed[4],)))
+            return self.put((client, ("done",) + deed[1:3] + (deed[4], answer)))
+        return self.put((client, draw.choice((("look", lock, True), ("look", lock, False), ("released", lock), ("not now", lock),
+                                              ("not held", lock, draw.randrange(self.places))))))
+
+
+def a_quiet_list(draw, many=30, clients=3, locks=2, places=2):
+    """A quiet LIST of about so many STEPS."""
+    steps = Steps(draw, clients, locks, places)
+    for _ in range(40 * many):
+        if len(steps.steps) >= many:
+            break
+        steps.quiet()
+    return tuple(steps.steps)
+
+
+def a_list(draw, many=30, clients=3, locks=2, places=2):
+    """A LIST of about so many STEPS."""
+    steps = Steps(draw, clients, locks, places)
+    for _ in range(40 * many):
+        if len(steps.steps) >= many:
+            break
+        steps.any()
+    return tuple(steps.steps)

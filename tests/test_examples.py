@@ -140,6 +140,59 @@ raises CanNot()
 >>> way_ends(lone, way, "look"), greatest_between(sheet(sure, way, "look"), 5, 3)
 ((5, 3), (-1, 2))
 """,
+    15: """
+>>> pair = (lone, ((0, ("term",), (1, 1)), (1, ("length", 0), (1, 1))))
+>>> overlap_form(2, pair, way, "look")
+((0, 1), (1, 1), (-1, 1))
+>>> where = right_where(2, pair, 2, "looks")
+>>> stretches(where, ((0, 1), (0, 1)), ((1, 1), (0, 1)))
+(((-10, 1), True, (0, 1), False),)
+>>> mend(2, where, ((3, 1), (0, 1)), (((1, 1), (1, 1)), ((2, 1), (2, 1))))[:2]
+((3, 1), ((0, 1), (0, 1)))
+>>> x, y = ((0, 1), (1, 1)), ((-1, 1), (1, 1))
+>>> gone = ("never", ((1, 1), (-1, 1)))
+>>> is_tree(1, ("below", x), ("below", y), ("split", x, ("split", y, ("so",), gone, gone), ("so",), ("so",)))
+True
+>>> stretches(web_where(1, 2, ((0, 1, x), (1, 0, y))), ((0, 1),), ((-1, 1),))
+((None, False, (-1, 2), True),)
+""",
+    16: """
+>>> shared, intent = ((0,), ()), ((0, 1, 2), (0, 1), (0, 2))
+>>> needed(shared), needed(intent)
+((), ((0, 1), (0, 2)))
+>>> kinds_right((shared, True, ())), kinds_right((shared, False, ())), kinds_right((intent, True, ((0, 1),)))
+(True, False, False)
+>>> late = (("tell", 0), ("tell", 1), ("tell", 0), ("send", 0, 0), ("send", 2, 0), ("take", 1), ("take", 0))
+>>> kind_rows((shared, False, ()), late), kind_rows((shared, True, ()), late)
+(((True, True), ((1, 0),)), ((False, True), ((1,),)))
+""",
+    17: """
+>>> left = (("ask", 0), ("told", 0, (1, 0)), ("ask", 1), ("told", 1, (2, 0)), ("look", 0, True))
+>>> right = (("ask", 1), ("told", 1, (1, 1)), ("ask", 0), ("told", 0, (2, 1)), ("look", 1, True))
+>>> crossed, half = ((("client", 0), left), (("client", 1), right)), ((("client", 0), left), (("client", 1), right[:4]))
+>>> misfit(crossed), is_knot(crossed, ((0, 4), ("grant", 0, (2, 1)), (1, 3), (1, 4), ("grant", 1, (2, 0)), (0, 3)))
+(None, True)
+>>> len(knot(crossed)), thread(half, (0, 4), (1, 3)), is_ahead(half, (1, 1), ("grant", 0, (2, 1)))
+(6, ((0, 4), ("grant", 0, (2, 1)), (1, 3)), False)
+>>> barred(((0, left[0]), ("grant", 0, (1, 0)), ("end", 0), (0, left[1]), (0, ("look", 0, True))))
+4
+>>> list_of(crossed)
+raises CanNot()
+>>> list_with(half, (1, 3), (0, 4))
+raises CanNot()
+""",
+    18: """
+>>> one_row = (("ask", 0), ("told", 0, (1, 0)), ("deed", 0, 0, (1, 0), 2, ("put", 4)), ("look", 0, False))
+>>> next_row = (("ask", 0), ("told", 0, (2, 1)), ("deed", 0, 0, (2, 1), 5, ("put", 5)), ("done", 0, 0, 5, 4))
+>>> shop_row = (((1, 0), 2, ("put", 4), 0), ((2, 1), 5, ("put", 5), 4))
+>>> rows = ((("client", 0), one_row), (("client", 1), next_row), (("store", 0, 0), shop_row))
+>>> by_number(rows)[:6]
+((0, ("ask", 0)), (1, ("ask", 0)), ("grant", 0, (1, 0)), (0, ("told", 0, (1, 0))), (0, ("deed", 0, 0, (1, 0), 2, ("put", 4)), 0), ("end", 0))
+>>> by_number(rows)[6:]
+((0, ("look", 0, False)), ("grant", 0, (2, 1)), (1, ("told", 0, (2, 1))), (1, ("deed", 0, 0, (2, 1), 5, ("put", 5)), 4), (1, ("done", 0, 0, 5, 4)))
+>>> told_by(by_number(rows)) == rows, goes_down(rows), is_quiet(by_number(rows)), ranked(rows)[2]
+(True, None, False, (("store", 0, 0), (((1, 0), 1, ("put", 4), 0), ((2, 1), 1, ("put", 5), 4))))
+""",
 }
 
 
@@ -154,7 +207,7 @@ class Examples(unittest.TestCase):
     def test_none_is_left_out(self):
         many = sum(len(list(steps(text))) for text in EXAMPLES.values())
         self.assertEqual(many, sum(text.count(">>> ") for text in EXAMPLES.values()))
-        self.assertEqual(sorted(EXAMPLES), list(range(4, 15)))
+        self.assertEqual(sorted(EXAMPLES), list(range(4, 19)))
 
 
 def steps(text):

@@ -179,6 +179,16 @@ class Rules(unittest.TestCase):
             for other in attributes:
                 self.assertFalse(set(methods[name]) & attributes[other], name)
 
+    def test_attributes_have_no_name_of_a_value(self):
+        barred = {name for kind in (str, int, bytes, list, dict, set, tuple) for name in dir(kind)} | {"format_map", "mro", "args", "sort"}
+        barred -= set("count index title find get join lower upper split strip copy add".split())
+        for _, _, tree in self.each():
+            for node in ast.walk(tree):
+                if isinstance(node, ast.Attribute) and isinstance(node.ctx, ast.Store):
+                    self.assertNotIn(node.attr, barred)
+                if isinstance(node, ast.ClassDef):
+                    self.assertFalse({part.name for part in node.body if isinstance(part, ast.FunctionDef)} & (barred - DOUBLE))
+
     def test_interface_is_defined_in_its_file(self):
         told = dict(files())
         for word, names in INTERFACE.items():
@@ -205,6 +215,10 @@ INTERFACE = {
     "lots": "is_roster is_ticket_run is_circle shared meets not_meeting had fewest_apart ticket_rows order_of circle_of"
             " circle_run better roster_for cover",
     "ways": "hows ways overlap sheet way_ends shut_sum widest open_pairs late_look open_run",
+    "borders": "is_condition comes_to holds plan_at overlap_form right_where web_where stretches tree apart is_tree mend is_mend",
+    "kinds": "is_table is_rules is_kind_run is_kind_list is_kind_loop needed kind_rows kind_list kind_loop kinds_right wrong_run",
+    "plain": "is_telling misfit is_list barred told_by is_ahead is_thread is_knot list_of knot thread list_with",
+    "laid": "by_number by_told goes_down is_quiet follows ranked run_of",
 }
 
 
