@@ -2,7 +2,7 @@
 
 from math import gcd
 
-from plainlock.fractions import ZERO, fraction, less, plus, times, whole
+from plainlock.fractions import ZERO, fraction, less, over, plus, sum_of, times, whole
 from plainlock.regions import Region
 from plainlock.sides import is_flat
 
@@ -22,8 +22,7 @@ def forms_around(unknowns, many, ties):
             key = form[1:]
             if key not in least or less(form[0], least[key]):
                 least[key] = form[0]
-    forms = [(least[key],) + key for key in least]
-    return _without_needless(unknowns, forms)
+    return _without_needless(unknowns, _tightest_first([(least[key],) + key for key in least]))
 
 
 def _shortened(form):
@@ -53,6 +52,18 @@ def _sums_around(unknowns, many, ties):
                 elif point > start and point not in passed:
                     ways.append((point, passed + (point,), added))
     return list(found)
+
+
+def _tightest_first(forms):
+    """The FORMS by how near to VALUES of nothing but 0 they are 0: so few are kept that others make needless."""
+    shares = [over(form[0], sum_of([_size(x) for x in form[1:]])) for form in forms]
+    tops = whole(shares)[0]
+    ranked_forms = sorted([(top, form) for top, form in zip(tops, forms)])
+    return [form for _, form in ranked_forms]
+
+
+def _size(x):
+    return (abs(x[0]), x[1])
 
 
 def _without_needless(unknowns, forms):

@@ -183,7 +183,7 @@ def circle_run(roster, kept):
     if len(lots) == 1:
         lots = lots * 2
     steps = []
-    for keeper in range(KEEPERS):
+    for keeper in sorted(set([keeper for lot in lots for keeper in lot])):
         steps.extend(_grants(lots, keeper, keeper in kept))
     for hold in range(len(lots)):
         steps.append(("deed", hold, hold))
