@@ -132,10 +132,16 @@ class Player:
             self.play(self.draw.choice(self.clients), ("start",))
         else:
             house = self.draw.choice(self.clients)
-            self.play(house, self.act(house))
+            act = self.act(house)
+            if self.play(house, act) and act[0] == "deed" and self.draw.random() < 0.7:
+                self.play(house, ("send",))
 
     def deliver(self):
         at = self.draw.randrange(len(self.loose))
+        if self.draw.random() < 0.6:
+            # one that has waited longest, lest all of them come too late
+            starts = [start[0] / start[1] for _, start, _, _ in self.loose]
+            at = starts.index(min(starts))
         number, start, sender, house = self.loose[at]
         kinds = {("client", "keeper"): 0, ("keeper", "client"): 1, ("client", "store"): 2, ("store", "client"): 3}
         least, most = self.one[3][kinds[(sender[0], house[0])]]

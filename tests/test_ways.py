@@ -399,6 +399,27 @@ class Late(unittest.TestCase):
         self.assertGreater(shut, 40)
 
 
+    def test_no_late_deed_without_an_open_pair(self):
+        """At a store that does not ask, but keeps, so that its falls are nothing."""
+        draw = random.Random(13)
+        plan = with_parts(LONE, term=at(40))
+        for name, value in ((("asks", 0), False), (("most", "deed"), at(2)), (("length", 0), (157, 4)), (("most", "ask"), at(9)), (("most", "grant"), at(9))):
+            plan = changed(plan, name, value)
+        self.assertEqual(open_pairs(plan, "store"), ())
+        self.assertEqual(widest(plan, (0,), (0,), "store"), (-1, 4))
+        done = numbers = 0
+        for _ in range(150):
+            run = a_run(draw, plan, 90, 2)
+            for house, row in telling(plan, run):
+                if house[0] == "store":
+                    done += len(row)
+                    numbers += len({entry[0] for entry in row}) > 1
+                    for k, entry in enumerate(row):
+                        self.assertFalse(any(ahead[0] > entry[0] for ahead in row[:k]), run)
+        self.assertGreater(done, 50)
+        self.assertGreater(numbers, 5)
+
+
 class OpenRuns(unittest.TestCase):
     def believes(self, plan, run, upto, client, lot):
         """Whether the client believes by this LOT behind the EVENTS ahead of upto, at the moment of the next."""
