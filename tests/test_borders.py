@@ -198,6 +198,20 @@ class Families(unittest.TestCase):
         self.assertIs(holds(right_where(2, sealed, 2, "looks"), (at(5), at(0))), False)
         check_call(self, right_where, ("unknowns", "family", "locks", "language"), (2, family, 2, "looks"))
 
+    def test_right_where_nothing_grows_that_counts(self):
+        """What does not hang on the unknowns is right or wrong everywhere, at its very border, too."""
+        for plan, wanted in ((LONE, False), (changed(LONE, ("length", 0), (81, 10)), True),
+                             (changed(changed(LONE, ("length", 0), at(0)), ("term",), at(2)), False),
+                             (changed(changed(LONE, ("length", 0), at(0)), ("term",), (19, 10)), True),
+                             (changed(changed(LONE, ("term",), at(1)), ("faults",), ("bare grant",)), False),
+                             (changed(changed(LONE, ("term",), at(1)), ("counts",), "taken"), True),
+                             (changed(changed(changed(LONE, ("term",), at(1)), ("length", 0), at(1)), ("counts",), "taken"), False)):
+            where = right_where(1, (plan, ((0, ("grace", 0), at(1)),)), 2, "looks")
+            for value in (0, 7):
+                self.assertIs(holds(where, (at(value),)), wanted, plan)
+                self.assertIs(self.is_right((plan, ((0, ("grace", 0), at(1)),)), (at(value),), 2, "looks"), wanted)
+            self.assertIs(holds(where, (at(-1),)), False)
+
     def test_web_where(self):
         draw = random.Random(3)
         seen = {True: 0, False: 0}
@@ -351,6 +365,12 @@ class Trees(unittest.TestCase):
         so, gone = ("so",), self.GONE
         self.check(True, self.GOOD)
         self.check(True, ("split", Y, so, ("split", X, ("never", (at(-1), at(1))), so, so), ("split", X, ("never", (at(-2), at(2))), so, so)))
+        # one that is the same everywhere may not
+        gone3 = ("never", (at(0), at(1), at(-1)))
+        inner = ("split", X, ("split", Y, so, gone3, gone3), so, so)
+        self.check(True, ("split", (at(9), at(5))) + (inner,) * 3)
+        self.check(False, ("split", (at(9), at(0))) + (inner,) * 3)
+        self.check(False, self.GOOD[:3] + (("so", 0), so))
         # a FORM of neither may be split, too
         third = (at(7), at(3))
         deep = self.GOOD[:2] + (("split", Y, so, ("split", third) + (("never", (at(1), at(-1), at(0))),) * 3, gone), so, so)
@@ -383,6 +403,19 @@ class Trees(unittest.TestCase):
         for weights, wanted in (((at(-2), at(1)), True), ((at(-4), at(2)), True), ((at(2), at(-1)), False), ((at(0), at(0)), False), ((at(-2), at(2)), False)):
             thing = ("split", X, so, ("split", twice, ("never", weights), so, so), ("split", twice, ("never", (at(-2), at(1))), so, so))
             self.check(wanted, thing, condition, ("any", ()))
+
+    def test_weights_that_leave_something_below_0(self):
+        so, lower = ("so",), (at(-1), at(2))
+        condition = ("all", (since(X), below(lower)))
+        for below_side, at_side, wanted in ((so, so, False), (("never", (at(-2), at(1))), so, False)):
+            thing = ("split", X, so, ("split", lower, below_side, at_side, so), so)
+            self.check(wanted, thing, condition, ("any", ()))
+        # both at 0: that can be
+        twice = (at(0), at(2))
+        condition = ("all", (since(X), below(twice)))
+        for at_side, wanted in ((so, True), (("never", (at(-2), at(1))), False), (("never", (at(0), at(0))), False)):
+            both = [("split", twice, ("never", (at(-2), at(1))), at_side, so), ("split", twice, ("never", (at(-2), at(1))), so, so)]
+            self.check(wanted, ("split", X, so) + tuple(both), condition, ("any", ()))
 
     def test_so_where_known_decides(self):
         so = ("so",)
@@ -503,7 +536,7 @@ class Mends(unittest.TestCase):
         condition = ("any", (below(((4, 1), (1, 1))), since(((-9, 1), (1, 1)))))
         for thing, wanted in (
                 ((at(6), (at(9),), (at(9),)), True), ((at(6), (at(9),), (at(11),)), True), ((at(6), (at(9),), (at(8),)), False),
-                ((at(6), (at(9),), (at(-9),)), False), ((at(7), (at(10),), (at(10),)), False), ((at(7), (at(-4),), (at(-5),)), False),
+                ((at(6), (at(9),), (at(-9),)), False), ((at(6), (at(10),), (at(10),)), False), ((at(7), (at(10),), (at(10),)), False), ((at(7), (at(-4),), (at(-5),)), False),
                 ((at(5), (at(9),), (at(9),)), False), ((at(5), (at(8),), (at(9),)), False), ((6, (at(9),), (at(9),)), False),
                 (((12, 2), (at(9),), (at(9),)), False), ((at(6), (at(9), at(0)), (at(9),)), False), ((at(6), (at(9),), ()), False),
                 ((at(6), at(9), at(9)), False), ([at(6), (at(9),), (at(9),)], False), ((at(6), [at(9)], (at(9),)), False), (None, False), ((), False),

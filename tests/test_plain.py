@@ -250,7 +250,8 @@ class Forms(unittest.TestCase):
         for entry in (("ask",), ("ask", -1), ("ask", True), ("ask", 0, 0), ("told", 0), ("told", 0, 1), ("told", 0, (1,)), ("told", 0, (1, -1)),
                       ("told", 0, [1, 0]), ("told", 0, (True, 0)), ("released", None), ("look", 0), ("look", 0, 1), ("look", 0, None), ("not held", 0),
                       ("not held", 0, -1), ("done", 0, 0, 0, 1), ("done", 0, 0, 1), ("done", 0, 0, 1, None), ("done", 0, 0, 1, True), ("stale", 0, 0, 0),
-                      ("stale", 0, 0), ("stale", 0, 0, 1, 2), ("end", 0), ("grant", 0, (1, 0)), (), None, 0, ["ask", 0], "ask", (0, 0)) + tuple(
+                      ("stale", 0, 0), ("stale", 0, 0, 1, 2), ("told", 0, (1, 0), 0), ("look", 0, True, 0), ("not held", 0, 0, 0), DONE + (0,),
+                      DEED + (0,), DEED[:5], DEED[:2], ("told", 0, (1, 0, 0)), ("end", 0), ("grant", 0, (1, 0)), (), None, 0, ["ask", 0], "ask", (0, 0)) + tuple(
                           bent(DEED, path, new) for path, new in (((1,), -1), ((2,), None), ((3,), (1,)), ((4,), 0), ((4,), True), ((5,), ("put",)),
                                                                   ((5,), ("put", None)), ((5,), ("get", 1)), ((5,), "get"), ((5,), ["get"]))):
             self.check(False, of((entry,)), of(HELD + (entry,)))
@@ -258,11 +259,13 @@ class Forms(unittest.TestCase):
         self.check(True, ((SHOP, (entry,)),))
         for path, new in (((0,), (1,)), ((0,), (1, True)), ((1,), 0), ((1,), None), ((2,), ("put", None)), ((2,), "get"), ((3,), None), ((3,), True)):
             self.check(False, ((SHOP, (bent(entry, path, new),)),))
+        for house in (("store", 0, -1), ("store", True, 0), ("store", 0), ("store", 0, 0, 0), ("shop", 0, 0), ("keeper", 0, 0), ("client", 0), ("store", -1, 0)):
+            self.check(False, ((house, (entry,)),))
         self.check(False, ((SHOP, (entry[:3],)),), ((SHOP, (entry + (0,),)),), ((SHOP, (list(entry),)),), ((SHOP, (("ask", 0),)),))
 
     def test_houses(self):
         row = (("ask", 0),)
-        for house in (("client", -1), ("client", True), ("client",), ("client", 0, 0), ("keeper", 0), ("store", 0), ("store", 0, -1), SHOP, (), None, 0, ["client", 0]):
+        for house in (("client", -1), ("client", True), ("client",), ("client", 0, 0), ("keeper", 0), ("store", 0), ("store", 0, -1), SHOP, ("keeper", 0, 0), ("shop", 0, 0), (), None, 0, ["client", 0]):
             self.check(False, ((house, row),))
         self.check(False, ((("client", 0), ()),), ((("client", 0), row), (("client", 0), row)), ((("client", 1), row), (("client", 0), row)),
                    [(("client", 0), row)], ((("client", 0), list(row)),), ((("client", 0), row, 0),), ([("client", 0), row],), None, 0, (None,), "ab",
@@ -680,7 +683,7 @@ class Threads(unittest.TestCase):
         check_call(self, is_thread, ("telling", "one", "other", "thing"), (HALF, one, other, good), things=(3,))
 
     def test_no_place(self):
-        for wrong in ((0, 5), (2, 0), (0, -1), ("grant", 0, (1, 1)), ("grant", 1, (1, 0)), ("grant", 2, (1, 0)), (True, 0), (), ("told", 0, (1, 0))):
+        for wrong in ((0, 5), (2, 0), (0, -1), ("grant", 0, (1, 1)), ("grant", 1, (1, 0)), ("grant", 2, (1, 0)), (True, 0), (0, True), (0, None), (), ("told", 0, (1, 0))):
             for call in (is_ahead, thread, list_with):
                 for one, other in ((wrong, (0, 0)), ((0, 0), wrong), (wrong, (9, 9))):
                     with self.assertRaises(NoPlace) as caught:

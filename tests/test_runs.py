@@ -294,6 +294,16 @@ class Told(unittest.TestCase):
         self.assertEqual(rows[ME][-1], ("done", 0, 0, 2, 0))
         self.assertEqual(sent(LONE, run)[6], ())
 
+    def test_falls_of_stores(self):
+        """One that does not keep does a deed again behind a fall, and a twin that has not fallen does not."""
+        plan = changed(LONE, ("keeps", 0), False)
+        run = RUN + ((SHOP, at(4), None, ("fall",)), (SHOP, at(5), None, ("take", 4)))
+        self.assertEqual(dict(telling(plan, run))[SHOP], (((1, 0), 2, ("put", 4), 0), ((1, 0), 2, ("put", 4), 4)))
+        self.assertEqual(dict(telling(LONE, run))[SHOP], (((1, 0), 2, ("put", 4), 0),))
+        other = (("store", 0, 1), at(4), None, ("fall",))
+        wide = plan[:5] + (plan[5] * 2,) + plan[6:]
+        self.assertEqual(len(dict(telling(wide, RUN + (other, run[-1])))[SHOP]), 1)
+
     def test_unfit(self):
         for run in (RUN[1:], RUN + (event(ME, 4, ("send",), 9),), (event(KEEP, 0, ("switch",)),)):
             self.assertRaises(Unfit, sent, LONE, run)
