@@ -30,7 +30,7 @@ def is_plan(thing):
     lots, keepers, clocks, legs, library, stores, faults = thing
     if not is_tuple_of(_is_keeper, keepers) or keepers == ():
         return False
-    if not _is_lots(len(keepers), lots):
+    if not is_lots(len(keepers), lots):
         return False
     if not is_row(2, clocks) or not is_tuple_of(is_clock, clocks):
         return False
@@ -50,7 +50,7 @@ def _is_fault(thing):
     return thing in FAULTS
 
 
-def _is_lots(many, thing):
+def is_lots(many, thing):
     """Whether thing is a set, not (), of LOTS of so many keepers."""
     if not isinstance(thing, tuple) or thing == ():
         return False

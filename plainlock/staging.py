@@ -169,3 +169,15 @@ class Staging:
         self.wait(self.least[3])
         self.course.fetch(self.now, client, "done", store, taken)
         self.course.play()
+
+    def do_twice(self, client, act):
+        """A deed is let and sent, done, and done again behind a fall of its store."""
+        store = ("store",) + act[1:3]
+        self.do(client, act)
+        self.do(client, ("send",))
+        start = self.now
+        self.wait(self.least[2])
+        self.course.fetch(self.now, store, "deed", client, start)
+        self.course.put(self.now, store, ("fall",))
+        self.course.fetch(self.now, store, "deed", client, start)
+        self.course.play()

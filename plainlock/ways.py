@@ -179,8 +179,7 @@ def way_ends(plan, way, goal):
 def shut_sum(plan, way, goal):
     """A SUM by which a WAY is shut; Unfit() if way is none, CanNot() if it has none."""
     way = checked_way(plan, way)
-    width = overlap(plan, way, goal)
-    if not has_sheet(way) or width is None or not less(width, ZERO):
+    if not has_sheet(way) or not is_way_shut(plan, way, goal):
         raise CanNot()
     start, end = way_ends(plan, way, goal)
     return no_way(with_ties(sheet(plan, way, goal), ((end, start, ZERO),)))
@@ -201,6 +200,17 @@ def _widest_at(plan, start, goal):
     """The greatest overlap of the WAYS that begin so; None if one is endless."""
     widths = [overlap(plan, start + (how,), goal) for how in hows(plan, start[2])]
     return None if any([width is None for width in widths]) else greatest(widths)
+
+
+def is_way_shut(plan, way, goal):
+    """Whether the overlap of a WAY is told and below 0."""
+    width = overlap(plan, way, goal)
+    return width is not None and less(width, ZERO)
+
+
+def is_shut_at(plan, start, goal):
+    """Whether the WAYS that begin with these LOTS and this keeper of both are all shut so."""
+    return all([is_way_shut(plan, start + (how,), goal) for how in hows(plan, start[2])])
 
 
 def open_pairs(plan, goal):

@@ -193,6 +193,57 @@ raises CanNot()
 >>> told_by(by_number(rows)) == rows, goes_down(rows), is_quiet(by_number(rows)), ranked(rows)[2]
 (True, None, False, (("store", 0, 0), (((1, 0), 1, ("put", 4), 0), ((2, 1), 1, ("put", 5), 4))))
 """,
+    19: """
+>>> eager = changed(lone, ("term",), (20, 1))
+>>> closed, plain = changed(eager, ("sealed",), True), changed(eager, ("asks", 0), False)
+>>> is_right(eager, 1, "looks"), reasons(eager, 2, "looks"), reasons(closed, 2, "deeds"), reasons(closed, 2, "looks")
+(True, ('look',), (), ('look',))
+>>> reasons(plain, 1, "deeds"), reasons(plain, 3, "deeds"), must_ask(plain), must_ask(eager), is_right(sure, 5, "looks")
+(('store',), ('look', 'store'), (0,), (0,), True)
+>>> len(proof(sure, 2, "looks")), is_proof(sure, 2, "looks", proof(sure, 2, "looks")), proof(eager, 1, "looks")
+(2, True, ())
+>>> crossing(((("client", 1), (0, 1), (0, 1), ("ask", 0)), (("keeper", 0), (1, 1), (1, 1), ("take", 0))))[2:]
+((('keeper', 0), (1, 1), (1, 1), ('take', 0)), (('keeper', 0), (1, 1), (1, 1), ('take', 1)))
+>>> bad_run(sure, 2, "looks")
+raises CanNot()
+""",
+    20: """
+>>> first = ("take", 0, ("get", 0, 0, ((0, ("put", 0, 0, 1, ("free", 0, ()), ())),), ("free", 0, ()), ()))
+>>> second = ("take", 0, ("get", 0, 0, ((0, ("put", 0, 0, 2, ("free", 0, ()), ())),), ("free", 0, ()), ()))
+>>> ends((first, second), False), ends((first, second), True)
+(((1,), (2,)), ((0,), (1,), (2,)))
+>>> cast = (("take", 0, ("take", 1, ("look", 0, (), ()))), ("take", 1, ("take", 0, ("look", 1, (), ()))))
+>>> end_of(cast, crossed), goes(cast[0], left), goes(cast[1], left), ends(cast, False), program_of(left) == cast[0]
+((), True, False, (), True)
+>>> list_to((first, second), True, (3,))
+raises CanNot()
+""",
+    21: """
+>>> free = ((1, 1), None, False)
+>>> world = ((((1, 2), (1, 1)), ((1, 1), (2, 1))), (free, free, free, free), ((True, (0, 1)),), ((0, 1), (0, 1)), ((0,),))
+>>> x, k, n = ("client", 5), ("keeper", 0), (1, 5)
+>>> asked = ((x, (0, 1), ("ask", 0, n)), (k, (100, 1), ("hear", 0)), (k, (100, 1), ("grant", n, (150, 1), None)))
+>>> view = asked + ((x, (4, 1), ("hear", 2)), (x, (6, 1), ("look",)))
+>>> is_view(world, view), is_view(world, view[:3] + view[4:])
+(True, False)
+>>> age(world, view, 2), has(view, 4), has(view, 0), rests_on(view, 2), view_of(view, 1) == asked[:2]
+((11, 1), ((0, (1, 5)),), (), (0, 1, 2), True)
+>>> age(world, view, 5)
+raises NoPlace(place=5)
+""",
+    22: """
+>>> slack(world), endings(world, view, 0), surely_with(world, view), is_sure(world, view)
+((1, 1), (((2, (25, 1)),),), (0,), True)
+>>> first_unsure(world, view), is_cut(world, view, (2, (10, 1))), chains(world, view, 0)[0][0]
+((27, 2), False, 0)
+>>> late = view[:4] + ((x, (27, 2), ("look",)),)
+>>> stranger = late + ((("client", 6), (0, 1), ("ask", 0, (1, 6))), (k, (150, 1), ("hear", 5)), (k, (150, 1), ("grant", (1, 6), None, None)))
+>>> told = ((-27, 1), (-26, 1), (-26, 1), (-19, 1), (0, 1), (-2, 1), (-1, 1), (-1, 1))
+>>> keepers_with(world, stranger, told, 4), is_worst(world, late, (stranger, told)), is_sure(world, late)
+((), True, False)
+>>> is_sure(world, view[:3])
+raises CanNot()
+""",
 }
 
 
@@ -207,7 +258,7 @@ class Examples(unittest.TestCase):
     def test_none_is_left_out(self):
         many = sum(len(list(steps(text))) for text in EXAMPLES.values())
         self.assertEqual(many, sum(text.count(">>> ") for text in EXAMPLES.values()))
-        self.assertEqual(sorted(EXAMPLES), list(range(4, 19)))
+        self.assertEqual(sorted(EXAMPLES), list(range(4, 23)))
 
 
 def steps(text):

@@ -219,6 +219,10 @@ INTERFACE = {
     "kinds": "is_table is_rules is_kind_run is_kind_list is_kind_loop needed kind_rows kind_list kind_loop kinds_right wrong_run",
     "plain": "is_telling misfit is_list barred told_by is_ahead is_thread is_knot list_of knot thread list_with",
     "laid": "by_number by_told goes_down is_quiet follows ranked run_of",
+    "right": "reasons is_right is_within is_bad proof is_proof bad_run crossing must_ask",
+    "programs": "is_program is_cast goes program_of stores_of end_of ends list_to stuck run_to",
+    "views": "is_world is_log is_view web_of_log rests_on view_of has age",
+    "promises": "slack keepers_with covered endings is_cut surely_with is_sure chains is_chains worst is_worst first_unsure",
 }
 
 
