@@ -366,7 +366,7 @@ class Ends(unittest.TestCase):
             self.assertEqual(len(Walk(cast, lapse).seen), many)
             if many == 5000:
                 told = ends(cast, lapse)
-                self.assertTrue(list_to(cast, lapse, told[0]))
+                self.assertEqual(end_of(cast, told_by(list_to(cast, lapse, told[0]))), told[0])
                 if lapse:
                     with self.assertRaises(CanNot):
                         run_to(LONE, cast, (9,) * 9)
