@@ -67,11 +67,13 @@ class Stand:
 
     def last(self, lots, term):
         """The greatest reading at which it is believed; None if there is none."""
-        ends = []
-        for lot in lots:
-            if all([keeper in self.starts for keeper in lot]):
-                ends.append(plus(least([self.starts[keeper] for keeper in lot]), term))
-        return greatest(ends)
+        return greatest([end for end in [self.end_by(lot, term) for lot in lots] if end is not None])
+
+    def end_by(self, lot, term):
+        """The greatest reading at which it is believed by this LOT; None if there is none."""
+        if not all([keeper in self.starts for keeper in lot]):
+            return None
+        return plus(least([self.starts[keeper] for keeper in lot]), term)
 
     def is_waited_for(self, number):
         """Whether some deed of number has no answer that counted yet."""
@@ -156,6 +158,15 @@ class Library:
     def last(self, lock):
         """The greatest reading at which the number is believed as things are; None without one."""
         return self._at(lock).last(self._plan[0], self._plan[4][0])
+
+    def believed_lots(self, lock, reading):
+        """The set of the LOTS by which the client believes at this reading."""
+        found = []
+        for lot in self._plan[0]:
+            end = self._at(lock).end_by(lot, self._plan[4][0])
+            if end is not None and not less(end, reading):
+                found.append(lot)
+        return tuple(found)
 
     def _check(self, reading, is_send):
         """Unfit() if the reading is below the one ahead; CanNot() if but a send is let."""

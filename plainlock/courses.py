@@ -1,7 +1,7 @@
 """Courses: what two clients, keepers and stores do at set moments, made a RUN of it."""
 
 from plainlock.fractions import less, minus, times
-from plainlock.runs import Machine
+from plainlock.runs import Machine, first_of
 
 
 class Course:
@@ -13,7 +13,8 @@ class Course:
 
     def __init__(self, plan):
         self.machine = Machine(plan)
-        self._plan = plan
+        # Of a pair of PLANS both have the same CLOCKS.
+        self._plan = first_of(plan)
         self._acts = []
         # What was the first moment is the moment 0 of the RUN.
         self._begin = None

@@ -11,7 +11,8 @@ ONE, TWO, SLOPE = (1, 1), (2, 1), ((1, 1), (1, 1))
 LONE = (((0,),), (((8, 1), "all", (0, 1)),), (SLOPE, SLOPE), ((ONE, TWO), (ONE, TWO), (ONE, (3, 1)), (ONE, None)),
         ((10, 1), "sent", (0, 1), "once", False), ((True, True),), ())
 MODULES = ("errors", "fractions", "sums", "rings", "sheets", "plans", "keepers", "clients", "stores", "runs", "lots", "ways",
-           "borders", "kinds", "plain", "laid", "right", "programs", "views", "promises")
+           "borders", "kinds", "plain", "laid", "right", "programs", "views", "promises", "bridge",
+           "changes")
 
 
 def all_names():

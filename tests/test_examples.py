@@ -244,6 +244,29 @@ raises NoPlace(place=5)
 >>> is_sure(world, view[:3])
 raises CanNot()
 """,
+    23: """
+>>> me, them, keep = ("client", 0), ("client", 1), ("keeper", 0)
+>>> course = ((me, (0, 1), (0, 1), ("ask", 0)), (keep, (1, 1), (0, 1), ("take", 0)), (me, (2, 1), (2, 1), ("take", 1)), (them, (8, 1), (0, 1), ("ask", 0)), (keep, (9, 1), (8, 1), ("take", 3)), (me, (10, 1), (10, 1), ("look", 0)))
+>>> log_of(lone, course, 0)[:4]
+((("client", 0), (0, 1), ("ask", 0, (1, 0))), (("keeper", 0), (0, 1), ("hear", 0)), (("keeper", 0), (0, 1), ("grant", (1, 0), (8, 1), None)), (("client", 0), (2, 1), ("hear", 2)))
+>>> log_of(lone, course, 0)[4:], log_of(lone, course, 1)
+(((("client", 1), (0, 1), ("ask", 0, (1, 1))), (("keeper", 0), (8, 1), ("hear", 4)), (("keeper", 0), (8, 1), ("grant", (1, 1), (16, 1), None)), (("client", 0), (10, 1), ("look",))), ())
+>>> looks(lone, course, 0), believed_by(lone, course, 0, 7), surely_at(lone, course, 0, 7), is_unsure_run(lone, 0, (course, 7))
+((7,), ((0,),), (), True)
+>>> shut_keepers(lone), shut_keepers(changed(lone, ("length", 0), (17, 2))), world_of(lone)[2:]
+((), (0,), (((True, (0, 1)),), ((0, 1), (0, 1)), ((0,),)))
+>>> unsure_run(lone, 1)
+raises NoPlace(place=1)
+""",
+    24: """
+>>> long = changed(changed(sure, ("term",), (12, 1)), ("length", 0), (11, 1))
+>>> crossings((sure, long, (("keepers", "start", "stop"),), ()))
+((('new', (0,)), ('new', (0,))), (('new', (0,)), ('old', (0,))))
+>>> mend(1, smooth_where(long, sure, (("start", "stop"), ("keepers",))), ((0, 1),), (((1, 1), None),))[:2]
+((2, 1), ((2, 1),))
+>>> joint((((0,),), sure[1] * 2) + sure[2:], (((1,),), sure[1] * 2) + sure[2:])[0]
+((0, 1),)
+""",
 }
 
 
@@ -258,7 +281,7 @@ class Examples(unittest.TestCase):
     def test_none_is_left_out(self):
         many = sum(len(list(steps(text))) for text in EXAMPLES.values())
         self.assertEqual(many, sum(text.count(">>> ") for text in EXAMPLES.values()))
-        self.assertEqual(sorted(EXAMPLES), list(range(4, 23)))
+        self.assertEqual(sorted(EXAMPLES), list(range(4, 25)))
 
 
 def steps(text):

@@ -223,6 +223,11 @@ INTERFACE = {
     "programs": "is_program is_cast goes program_of stores_of end_of ends list_to stuck run_to",
     "views": "is_world is_log is_view web_of_log rests_on view_of has age",
     "promises": "slack keepers_with covered endings is_cut surely_with is_sure chains is_chains worst is_worst first_unsure",
+    "bridge": "world_of log_of log_moments looks believed_by surely_at shut_keepers unsure_run is_unsure_run",
+    "changes": "is_change is_run_of mix_web crossings late_run smooth_where joint",
+    "judge": "is_claim is_book is_so paper is_paper_for is_paper_against follows_from first_gap cut_to",
+    "texts": "fraction_text plan_text events_text world_text log_text fraction_in plan_in events_in world_in log_in",
+    "desk": "reply replies Desk:plan,put,scale,undo,redo,depth,twin",
 }
 
 
