@@ -43,6 +43,13 @@ def goes_up(row):
     return all(row[k] < row[k + 1] for k in range(len(row) - 1))
 
 
+def is_same(one, other):
+    """Whether these are equal, truths and numbers being unlike."""
+    if isinstance(one, tuple) and isinstance(other, tuple) and len(one) == len(other):
+        return all([is_same(x, y) for x, y in zip(one, other)])
+    return one == other and is_truth(one) == is_truth(other)
+
+
 def check_places(many, places):
     """NoPlace of the first of these that is no place in a tuple of so many."""
     for place in places:

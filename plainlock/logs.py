@@ -62,7 +62,7 @@ class LogReader:
 
     def __init__(self, world):
         self.world = world
-        self.read = []
+        self.log = []
         # The last place of each house.
         self.last_place = {}
         self.pledges = {}
@@ -80,10 +80,10 @@ class LogReader:
     def lets(self, entry):
         """Whether what has the form of an ENTRY may come next."""
         house, reading, act = entry
-        if house in self.last_place and less(reading, self.read[self.last_place[house]][1]):
+        if house in self.last_place and less(reading, self.log[self.last_place[house]][1]):
             return False
         if act[0] == "hear":
-            return act[1] < len(self.read) and sent_to(self.read[act[1]]) == house
+            return act[1] < len(self.log) and sent_to(self.log[act[1]]) == house
         if house[0] == "keeper":
             return self.pledge(house[1]).lets(reading, act)
         if act[0] == "ask":
@@ -96,15 +96,15 @@ class LogReader:
         house, reading, act = entry
         key = (house[1],) + act[1:]
         if house[0] == "keeper" and act[0] == "hear":
-            self.pledge(house[1]).hears(self.read[act[1]][2])
+            self.pledge(house[1]).hears(self.log[act[1]][2])
         elif house[0] == "keeper":
-            self.pledge(house[1]).does(len(self.read), reading, act)
+            self.pledge(house[1]).does(len(self.log), reading, act)
         elif act[0] == "ask":
             self.asked[key] = True
         elif act[0] == "release":
             self.released[key] = True
-        self.last_place[house] = len(self.read)
-        self.read.append(entry)
+        self.last_place[house] = len(self.log)
+        self.log.append(entry)
 
 
 def reader_of(world, log):

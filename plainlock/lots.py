@@ -17,7 +17,12 @@ def is_roster(thing):
 
 
 def _is_lot(thing):
-    return is_tuple_of(_is_keeper, thing) and thing != () and goes_up(thing)
+    return is_keepers(thing) and thing != ()
+
+
+def is_keepers(thing):
+    """Whether thing is a set of keepers."""
+    return is_tuple_of(_is_keeper, thing) and goes_up(thing)
 
 
 def _is_keeper(thing):

@@ -74,7 +74,8 @@ class Mixing:
     def lesser(self, a):
         """The TIES of the lesser hold."""
         plan = self.plan_by(a)
-        found = from_on(ASK, TAKEN, self.ask_leg[0]) + up_to(ASK, TAKEN, self.ask_leg[1]) + from_on(TAKEN, LOOK, self.grant_leg[0])
+        found = from_on(ASK, TAKEN, self.ask_leg[0]) + up_to(ASK, TAKEN, self.ask_leg[1])
+        found.extend(from_on(TAKEN, LOOK, self.grant_leg[0]))
         belief = longest_belief(plan)
         if plan[4][1] == "sent":
             found.extend(up_to(ASK, LOOK, belief))

@@ -28,7 +28,7 @@ def is_plan(thing):
     if not is_row(7, thing):
         return False
     lots, keepers, clocks, legs, library, stores, faults = thing
-    if not is_tuple_of(_is_keeper, keepers) or keepers == ():
+    if not is_tuple_of(is_kept, keepers) or keepers == ():
         return False
     if not is_lots(len(keepers), lots):
         return False
@@ -36,7 +36,7 @@ def is_plan(thing):
         return False
     if not is_row(4, legs) or not is_tuple_of(is_leg, legs):
         return False
-    if not _is_library(library) or not is_tuple_of(_is_store, stores) or stores == ():
+    if not is_library(library) or not is_tuple_of(_is_store, stores) or stores == ():
         return False
     return is_faults(faults) and (faults == () or not library[4])
 
@@ -64,7 +64,8 @@ def is_lot(many, thing):
     return all([is_place(many, keeper) for keeper in thing]) and goes_up(thing)
 
 
-def _is_keeper(thing):
+def is_kept(thing):
+    """Whether thing is what a PLAN tells of a keeper."""
     if not is_row(3, thing):
         return False
     length, record, grace = thing
@@ -83,7 +84,8 @@ def is_leg(thing):
     return is_from_zero(least) and least != ZERO and is_most(least, most)
 
 
-def _is_library(thing):
+def is_library(thing):
+    """Whether thing is what a PLAN tells of the library."""
     if not is_row(5, thing):
         return False
     term, counts, stop, releases, sealed = thing
@@ -93,6 +95,7 @@ def _is_library(thing):
 
 
 def _is_store(thing):
+    """Whether thing is what a PLAN tells of a store."""
     return is_row(2, thing) and is_tuple_of(is_truth, thing)
 
 

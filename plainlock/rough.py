@@ -18,10 +18,10 @@ class Rough(Table):
 
     def __init__(self, rows, many):
         spread = max([_spread(row) for row in rows])
-        self.depth = DEPTH + 3 * spread
+        self.figures = DEPTH + 3 * spread
         self.dust = 1 << (DUST + spread)
-        Table.__init__(self, [_levelled(row, self.depth) for row in rows], many)
-        self.below = 1 << self.depth
+        Table.__init__(self, [_levelled(row, self.figures) for row in rows], many)
+        self.below = 1 << self.figures
         self.left = 20 * (many + len(rows)) + 200
 
     def pivot(self, at, column):
@@ -31,7 +31,7 @@ class Rough(Table):
             raise Lost()
         base = self.rows[at]
         turn = base[column]
-        base = [(y << self.depth) // turn for y in base]
+        base = [(y << self.figures) // turn for y in base]
         base[column] = self.below * self.below // turn
         for k in range(len(self.rows)):
             self.rows[k] = self._moved(self.rows[k], base, column)
@@ -46,7 +46,7 @@ class Rough(Table):
         factor = row[column]
         if factor == 0:
             return row
-        depth, dust = self.depth, self.dust
+        depth, dust = self.figures, self.dust
         new = [x - (factor * y >> depth) for x, y in zip(row, base)]
         new[column] = -(factor * base[column] >> depth)
         return [0 if -dust < x < dust else x for x in new]

@@ -18,20 +18,25 @@ def is_world(thing):
     clocks, legs, keepers, flight, lots = thing
     if not is_row(2, clocks) or not is_tuple_of(is_clock, clocks):
         return False
-    if not is_row(4, legs) or not is_tuple_of(_is_leg, legs) or not is_tuple_of(_is_keeper, keepers):
+    if not is_row(4, legs) or not is_tuple_of(is_sure_leg, legs) or not is_tuple_of(is_kept_pair, keepers):
         return False
-    if not is_row(2, flight) or not is_from_zero(flight[0]) or not is_most(flight[0], flight[1]):
-        return False
-    return is_lots(len(keepers), lots)
+    return is_flight(flight) and is_lots(len(keepers), lots)
 
 
-def _is_leg(thing):
+def is_flight(thing):
+    """Whether thing is the flight of a WORLD."""
+    return is_row(2, thing) and is_from_zero(thing[0]) and is_most(thing[0], thing[1])
+
+
+def is_sure_leg(thing):
+    """Whether thing is a leg of a WORLD."""
     if not is_row(3, thing) or not is_leg(thing[:2]) or not is_truth(thing[2]):
         return False
     return not thing[2] or thing[1] is not None
 
 
-def _is_keeper(thing):
+def is_kept_pair(thing):
+    """Whether thing is what a WORLD tells of a keeper."""
     return is_row(2, thing) and is_truth(thing[0]) and is_from_zero(thing[1])
 
 

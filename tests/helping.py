@@ -12,7 +12,7 @@ LONE = (((0,),), (((8, 1), "all", (0, 1)),), (SLOPE, SLOPE), ((ONE, TWO), (ONE, 
         ((10, 1), "sent", (0, 1), "once", False), ((True, True),), ())
 MODULES = ("errors", "fractions", "sums", "rings", "sheets", "plans", "keepers", "clients", "stores", "runs", "lots", "ways",
            "borders", "kinds", "plain", "laid", "right", "programs", "views", "promises", "bridge",
-           "changes")
+           "changes", "judge", "texts", "desk")
 
 
 def all_names():

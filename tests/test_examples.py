@@ -267,6 +267,37 @@ raises NoPlace(place=1)
 >>> joint((((0,),), sure[1] * 2) + sure[2:], (((1,),), sure[1] * 2) + sure[2:])[0]
 ((0, 1),)
 """,
+    25: """
+>>> best = ("roster", two_of, (0, 1, 2))
+>>> is_so(best), is_so(("roster", two_of[:2], (0, 1))), is_paper_for(("roster", two_of[:2], (0, 1)), 0)
+(False, True, True)
+>>> calm = ("right", sure, 2, "looks")
+>>> book = ((("run", lone, ()), ("paper", ())), (calm, ("paper", proof(sure, 2, "looks"))), (("right", sure, 7, "deeds"), ("of", (1,))))
+>>> first_gap(book), len(cut_to(book, (2,))), cut_to(book, (2,))[1][1]
+(None, 2, ('of', (0,)))
+>>> first_gap(book + ((best, ("paper", 0)),))
+3
+""",
+    26: """
+>>> fraction_text((-3, 2)), fraction_in("7"), plan_text(lone).split("\\n")[1:4]
+('-3/2', (7, 1), ['keeper 8 all 0', 'clocks 1 1 1 1', 'legs 1 2 1 2 1 3 1 none'])
+>>> plan_text(lone).split("\\n")[4:], plan_in(plan_text(lone)) == lone
+(['library 10 sent 0 once no', 'store yes yes', 'faults'], True)
+>>> events_text(((("client", 0), (3, 1), (8, 1), ("deed", 0, 0, ("put", 4))), (("store", 0, 0), (4, 1), None, ("take", 1))))
+'c0 3 8 deed 0 0 put 4\\ns0.0 4 none take 1'
+>>> fraction_in("6/4")
+raises BadText(line=1)
+>>> plan_in("lots 0\\nkeeper 8 some 0")
+raises BadText(line=2)
+>>> plan_in(plan_text(lone) + "\\nstore yes yes")
+raises BadText(line=8)
+""",
+    27: """
+>>> replies(lone, ("set length 0 17/2", "right 2 looks", "undo", "right 2 looks", "open look", "depth"))
+(('done',), ('right',), ('done',), ('wrong look',), ('0 0',), ('undo 0 redo 1',))
+>>> replies(lone, ("overlap 0 0 0 lapse store", "set term 20", "set sealed yes", "right 2 deeds", "must", "set slow client 2", "set length 3 8", "sets"))
+(('2',), ('done',), ('done',), ('right',), ('stores 0',), ('unfit',), ('no place',), ('unknown',))
+""",
 }
 
 
@@ -281,7 +312,7 @@ class Examples(unittest.TestCase):
     def test_none_is_left_out(self):
         many = sum(len(list(steps(text))) for text in EXAMPLES.values())
         self.assertEqual(many, sum(text.count(">>> ") for text in EXAMPLES.values()))
-        self.assertEqual(sorted(EXAMPLES), list(range(4, 25)))
+        self.assertEqual(sorted(EXAMPLES), list(range(4, 28)))
 
 
 def steps(text):
