@@ -139,7 +139,8 @@ def late_run(change):
         try:
             return Overtaking(mixing, waits, (a, b)).run(lot, other)
         except CanNot:
-            # LOTS without a keeper in common: so long a wait keeps the two beliefs apart all the same.
+            # LOTS without a keeper in common, and waits that keep an old hold apart from a new one: the other
+            # way round these LOTS have a RUN.
             continue
     raise CanNot()
 

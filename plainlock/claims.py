@@ -1,7 +1,7 @@
 """CLAIMS, kind by kind: whether they are so, and what is a PAPER for or against them."""
 
 from plainlock.borders import apart, holds, is_condition, is_tree, tree
-from plainlock.changes import is_change, is_run_of, late_run
+from plainlock.changes import crossings, is_change, is_run_of, late_run
 from plainlock.errors import CanNot
 from plainlock.forms import is_count, is_number, is_place, is_row, is_same, is_tuple_of
 from plainlock.fractions import is_fraction
@@ -244,11 +244,7 @@ class SmoothClaim(Claim):
         return is_change(thing)
 
     def so(self):
-        try:
-            self.paper_against()
-        except CanNot:
-            return True
-        return False
+        return crossings(self.parts[0]) == ()
 
     def paper_for(self):
         return ()
