@@ -9,7 +9,6 @@ class Diary:
     def __init__(self, plan, run, lock):
         self.lock = lock
         self.machine = Machine(plan)
-        self.keepers = range(len(plan[1]))
         self.log = []
         self.moments = []
         # For each look its place, with the LOTS by which the client believes there.

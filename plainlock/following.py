@@ -16,8 +16,7 @@ def is_following(claim, claims):
 
 def _is_between(claim, one, two):
     """Whether a CLAIM of two CONDITIONS leads over the one in the middle."""
-    _, unknowns, condition, other = claim
-    return one[:3] == claim[:3] and two[1] == unknowns and one[3] == two[2] and two[3] == other and condition == one[2]
+    return one[:3] == claim[:3] and two[:2] == claim[:2] and one[3] == two[2] and two[3] == claim[3]
 
 
 def _follows(claim, one):

@@ -158,11 +158,8 @@ def first_unsure(world, view):
     ends = [_least_told(growths) for growths in lots]
     if None in ends:
         return None
-    growth = greatest(ends)
-    room = farthest(loose, last, last + 1)
-    if room is not None and less(times(outlook.world[0][0][1], room), growth):
-        return None
-    return plus(reading, growth)
+    # With so much growth it still FITS: what has to be heard by then would keep all CUT if it did not.
+    return plus(reading, greatest(ends))
 
 
 def _least_told(growths):

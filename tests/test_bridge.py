@@ -247,6 +247,9 @@ class UnsureRuns(unittest.TestCase):
         for thing in ((COURSE, 6), (COURSE, 8), (COURSE, True), (COURSE, -1), (COURSE,), [COURSE, 7], (list(COURSE), 7), (COURSE[:5], 7), None,
                       (COURSE[1:], 6), (COURSE[:3] + ((ME, at(7), at(7), ("look", 0)),), 4), (COURSE, 7, 0), (COURSE, "7")):
             self.assertIs(is_unsure_run(LONE, 0, thing), False, thing)
+        # It does not believe by a LOT with the keeper.
+        self.assertEqual(believed_by(PAIR, COURSE, 0, looks(PAIR, COURSE, 0)[0]), ((0,),))
+        self.assertIs(is_unsure_run(PAIR, 1, (COURSE, looks(PAIR, COURSE, 0)[0])), False)
         soon = COURSE[:4] + ((KEEP, at(9), at(8), ("take", 3)), (ME, at(10), (99, 10), ("look", 0)))
         self.assertIs(is_unsure_run(LONE, 0, (soon, 7)), False)
         # By an inch later the grant is not early enough.

@@ -6,6 +6,7 @@ import unittest
 
 from plainlock.borders import holds, is_condition, mend, stretches
 from plainlock.changes import crossings, is_change, is_run_of, joint, late_run, mix_web, smooth_where
+from plainlock.clauses import FAILS, HOLDS, both, clause_of, either
 from plainlock.errors import CanNot
 from plainlock.fractions import greatest, less, minus, negative, over, plus, sum_of
 from plainlock.plain import list_of
@@ -159,6 +160,14 @@ class Changes(unittest.TestCase):
         self.assertIs(is_change(both_faulty), False)
         one_stage = (SURE, LONG, (("keepers", "start"), ("stop",)), (at(0),))
         self.assertIs(is_change(one_stage), False)
+        for path, new in (((1, 0), ((5,),)), ((1, 4, 0), None), ((1, 1, 0, 1), "some"), ((0, 1, 0, 0), (-1, 1))):
+            self.assertIs(is_change(bent(whole, path, new)), False, path)
+        for stages, waits in (((("keepers", "start", "stop"), ()), 1), (((), ("keepers", "start", "stop")), 1), ((("stop",), ("start", "keepers")), 1),
+                              ((("stop", "keepers"), ("start",)), 1), ((("stop",), ("keepers", 0), ("start",)), 2), ((("stop",), (0, "keepers"), ("start",)), 2),
+                              ((("stop",), ("start",), ("keepers",), ("stop",)), 3), ((("stop",), ("start",)), 1)):
+            self.assertIs(is_change((SURE, LONG, stages, (at(1),) * waits)), False, stages)
+        two_stores = [bent(plan, (5,), ((True, True), (True, False))) for plan in (SURE, LONG)]
+        self.assertIs(is_change((two_stores[0], two_stores[1], TOGETHER, ())), False)
 
 
 class RunsOf(unittest.TestCase):
@@ -184,6 +193,16 @@ class RunsOf(unittest.TestCase):
             change = (SURE, LONG, stages, tuple(at(wait) for wait in waits))
             self.assertTrue(is_run(change[:2], run))
             self.assertIs(is_run_of(change, run), told, (stages, waits, moments))
+
+    def test_each_of_several_events(self):
+        """The last of what comes first, and the first of what comes later, count."""
+        change = (SURE, LONG, (("stop",), ("start",), ("keepers",)), (at(3), at(2)))
+        for asks, starts, told in (((0, 3), (6, 9), True), ((0, 3), (5, 9), False), ((0, 4), (6, 9), False), ((0, 3), (6, 6), True)):
+            events = [(moment, (ME, at(moment), at(moment), ("ask", lock))) for lock, moment in enumerate(asks)]
+            events += [(moment, (("client", 1 + k), at(moment), at(0), ("start",))) for k, moment in enumerate(starts)]
+            run = tuple(event for _, event in sorted(events, key=lambda pair: pair[0]))
+            self.assertTrue(is_run(change[:2], run))
+            self.assertIs(is_run_of(change, run), told, (asks, starts))
 
     def test_each_keeper_has_switched(self):
         two = ((((0, 1),), SURE[1] * 2) + SURE[2:], (((0,),), LONG[1] * 2) + SURE[2:4] + LONG[4:])
@@ -311,6 +330,10 @@ class Crossings(unittest.TestCase):
 
     def test_no_hold(self):
         none = changed(SURE, ("term",), ONE)
+        apart = (((1,),), none[1] * 2) + none[2:], (((0,),), SURE[1] * 2) + SURE[2:]
+        self.assertEqual(crossings(apart + (TOGETHER, ())), ())
+        self.assertIs(holds(smooth_where(apart[0], apart[1], TOGETHER), ()), True)
+        self.assertIs(holds(smooth_where(apart[1], apart[0], TOGETHER), ()), True)
         self.assertEqual(crossings((none, LONG, TOGETHER, ())), ((("new", (0,)), ("new", (0,))),))
         self.assertEqual(crossings((none, none, TOGETHER, ())), ())
         self.assertEqual(holds(smooth_where(none, none, TOGETHER), ()), True)
@@ -332,6 +355,43 @@ class Crossings(unittest.TestCase):
         run = open_run(LONE, (0,), (0,), "look")
         self.assertTrue(is_run_of(change, run))
         self.assertEqual(late_look((LONE, LONE), run), late_look(LONE, run))
+
+
+class Clauses(unittest.TestCase):
+    """What smooth_where is put together of: some FORM below 0, of each of some tuples, at waits from 0."""
+
+    def told(self, clauses, waits):
+        return all(any(holds(("below", form), waits) for form in clause) for clause in clauses)
+
+    def a_form(self, draw):
+        return (a_fraction(draw, -1, 4, 2), at(-draw.randint(0, 2)), at(-draw.randint(0, 2)))
+
+    def test_at_0(self):
+        falling = (at(0), at(-1), at(0))
+        self.assertFalse(self.told(clause_of([falling]), (at(0), at(0))))
+        self.assertTrue(self.told(clause_of([falling]), ((1, 9), at(0))))
+        self.assertTrue(self.told(clause_of([((-1, 9), at(-1), at(0))]), (at(0), at(0))))
+        self.assertFalse(self.told(clause_of([]), (at(9), at(9))))
+        self.assertFalse(self.told(clause_of([((1, 9), at(-1), at(0))]), (at(0), at(0))))
+
+    def test_drawn(self):
+        draw = random.Random(247)
+        for _ in range(300):
+            some, others = ([[self.a_form(draw) for _ in range(draw.randint(0, 3))] for _ in range(draw.randint(0, 3))] for _ in range(2))
+            made = []
+            for clauses in (some, others):
+                found = HOLDS
+                for clause in clauses:
+                    found = both(found, clause_of(clause))
+                made.append(found)
+            for _ in range(6):
+                waits = (a_fraction(draw, 0, 3, 2), a_fraction(draw, 0, 3, 2))
+                wanted = [self.told(clauses, waits) for clauses in (some, others)]
+                self.assertEqual([self.told(clauses, waits) for clauses in made], wanted)
+                self.assertIs(self.told(both(*made), waits), all(wanted))
+                self.assertIs(self.told(either(*made), waits), any(wanted))
+                self.assertIs(self.told(either(FAILS, made[0]), waits), wanted[0])
+                self.assertIs(self.told(either(HOLDS, made[0]), waits), True)
 
 
 class Joint(unittest.TestCase):

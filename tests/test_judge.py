@@ -65,7 +65,7 @@ class Claims(unittest.TestCase):
                 self.assertIs(is_claim(thing), False, thing)
         for thing in (None, (), 5, "lines", "right", ((),), ("lines",), ("lines", [LINE]), ("lines", LINE), ("sheet", DESK[:4]), ("within", 1, ("below", X)),
                       ("within", 4, ("all", ()), ("all", ())), ("within", -1, ("all", ()), ("all", ())), ("within", True, ("below", X), ("below", X)),
-                      ("within", 2, ("below", X), ("below", X)), ("within", 1, ("below", X), ("under", X)), ("run", LONE, RUN, ()), ("run", LONE, (5,)),
+                      ("within", 2, ("below", X), ("below", X)), ("within", 1, ("below", X), ("under", X)), ("within", 1, ("under", X), ("below", X)), ("run", LONE, RUN, ()), ("run", LONE, (5,)),
                       ("run", (LONE, LONE), RUN), ("run", LONE, ((("keeper", 1), ONE, ONE, ("fall",)),)), ("run", RUN, LONE), ("plain", (LEFT,)),
                       ("right", SURE, 0, "looks"), ("right", SURE, True, "looks"), ("right", SURE, 2, "look"), ("right", SURE, "looks", 2),
                       ("right", SURE, 2), ("roster", (), (0,)), ("roster", TWO_OF, (1, 0)), ("roster", TWO_OF, (7,)), ("roster", TWO_OF, (True,)),
@@ -215,6 +215,11 @@ class Following(unittest.TestCase):
             self.assertTrue(follows_from(claim, SO + NOT_SO))
             self.assertFalse(follows_from(claim, tuple(other for other in SO + NOT_SO if other[0] != claim[0])))
 
+    def test_without_a_rule(self):
+        for claim, other in ((("run", LONE, ()), ("run", LONE, RUN)), (("run", LONE, RUN[:2]), ("run", LONE, RUN)), (("plain", ()), ("plain", HALF)),
+                             (("sheet", DESK), ("sheet", LATE)), (("sheet", LATE), ("sheet", DESK))):
+            self.check(claim, (other,), False)
+
     def test_lines(self):
         for lines, told in ((OPEN[:1], True), (OPEN[1:] + OPEN[:1], True), ((), True), (((LINE[0], at(4)),), True), (((LINE[0], (29, 10)),), False),
                             (((LINE[0], at(3)), (LINE[0], at(5))), True), (OPEN + (((), at(0)),), False), (((((1, ONE),), at(9)),), False)):
@@ -262,6 +267,9 @@ class Following(unittest.TestCase):
         for waits, told in (((at(2),), True), ((at(3),), True), (((19, 10),), False)):
             self.check(("smooth", CHANGE[:3] + (waits,)), (("smooth", CHANGE[:3] + ((at(2),),)),), told)
         self.check(("smooth", (SURE, LONG) + CHANGE[2:]), (("smooth", CHANGE),), False)
+        three = (SURE, SURE, (("stop",), ("start",), ("keepers",)))
+        for waits, told in (((1, 2), True), ((2, 2), True), ((3, 9), True), ((0, 9), False), ((9, 1), False), ((0, 0), False)):
+            self.check(("smooth", three + (tuple(at(wait) for wait in waits),)), (("smooth", three + ((at(1), at(2)),)),), told)
 
 
 class Books(unittest.TestCase):

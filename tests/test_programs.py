@@ -13,7 +13,7 @@ from plainlock.programs import end_of, ends, goes, is_cast, is_program, list_to,
 from plainlock.right import is_right
 from plainlock.runs import is_run, telling
 from plainlock.staging import lot_that_frees
-from tests.drawing import a_plan, a_quiet_list, a_list
+from tests.drawing import a_list, a_plan, a_quiet_list, a_run
 from tests.helping import LONE, at, check_call
 
 FIRST = ("take", 0, ("get", 0, 0, ((0, ("put", 0, 0, 1, ("free", 0, ()), ())),), ("free", 0, ()), ()))
@@ -114,7 +114,7 @@ class Forms(unittest.TestCase):
                 ("get", 0, 0, ((2, ()), (1, ())), (), ()), ("get", 0, 0, [], (), ()), ("get", 0, 0, ((1,),), (), ()),
                 ("get", 0, 0, ((True, ()),), (), ()), ("get", 0, 0, ((1, 1),), (), ()), ("get", 0, 0, ([1, ()],), (), ()),
                 ("get", 0, 0, (), (), 1), ("get", 0, "0", (), (), ()), ("look", 0, ()), ("look", 0, (), 1), ("look", 0, 1, ()),
-                ("look", 0, (), (), ()), ("look", "0", (), ()), (("take", 0, ()),), ("", 0, ())):
+                ("look", 0, (), (), ()), ("look", "0", (), ()), (("take", 0, ()),), ("", 0, ()), ("push", 0, 0, 1, (), ()), ("take", 0, 0, 1, (), ()), ("set", 0, 0, (), (), ())):
             self.assertIs(is_program(thing), False, thing)
         deep = ()
         for _ in range(45):
@@ -388,9 +388,34 @@ def nexts(lock, client):
     listener = lock.listener(client)
     told = [(word, one) for word in ("ask", "released") for one in range(3)]
     told += [("look", one, truth) for one in range(3) for truth in (True, False)] + [("not held", one, 0) for one in range(3)]
-    told += [("deed", one, 0, listener.standing[one], 99, what) for one in listener.standing for what in [("get",)] + [
+    told += [("deed", one, 0, listener.standing[one], listener.serial + 1, what) for one in listener.standing for what in [("get",)] + [
         ("put", v) for v in range(-2, 4)]]
     return [entry for entry in told if listener.fits(entry)]
+
+
+def plain_steps(draw, cast):
+    """Steps of the plain lock, quiet or not, by which the clients do what their PROGRAMS say."""
+    lock, steps, rows = PlainLock(), [], [() for _ in cast]
+    for _ in range(400):
+        client = draw.randrange(len(cast))
+        listener = lock.listener(client)
+        told = [("end", one) for one in range(2)] + [("grant", one, (lock.granted.get(one, (0, 0))[0] + 1, client)) for one in range(2)]
+        told += [(client, ("told", one, lock.promised[client, one])) for one in range(2) if (client, one) in lock.promised]
+        told += [(client, ("not now", one)) for one in range(2)] + [(client, entry) for entry in nexts(lock, client)]
+        told += [(client, entry, lock.integers.get(entry[1:3], 0)) for entry in nexts(lock, client) if entry[0] == "deed"]
+        for one, place, serial in listener.deeds:
+            answer = lock.done.get((client, one, place, serial))
+            told.append((client, ("stale", one, place, serial) if answer is None else ("done", one, place, serial, answer)))
+        step = draw.choice(told)
+        if step[0] == "end" and draw.random() < 0.7 or not lock.lets(step):
+            continue
+        if step[0] not in ("grant", "end"):
+            if not goes(cast[client], rows[client] + (step[1],)):
+                continue
+            rows[client] += (step[1],)
+        lock.play(step)
+        steps.append(step)
+    return tuple(steps)
 
 
 class Runs(unittest.TestCase):
@@ -426,11 +451,46 @@ class Runs(unittest.TestCase):
                 self.assertTrue(is_run(plan, run))
                 self.assertEqual(end_of(cast, telling(plan, run)), end)
 
+    def test_ends_of_plain_tellings(self):
+        """The END of each plain TELLING of a CAST, also of one in which deeds are not done, is one of ends."""
+        draw = random.Random(204)
+        found, stale = 0, 0
+        for _ in range(150):
+            cast = a_cast(draw, 4)
+            steps = plain_steps(draw, cast)
+            self.assertTrue(is_list(steps))
+            told = told_by(steps)
+            end = end_of(cast, told)
+            if end is not None:
+                self.assertIn(end, ends(cast, True))
+                found += 1
+                stale += any(step[0] not in ("grant", "end") and step[1][0] in ("stale", "not now") for step in steps)
+        self.assertGreater(found, 80)
+        self.assertGreater(stale, 8)
+
+    def test_ends_of_runs_of_right_plans(self):
+        draw = random.Random(205)
+        found = 0
+        for k in range(150):
+            plan = a_plan(draw, stores=((True, True),))
+            if not is_right(plan, 2, "looks") or not can_hold(plan):
+                continue
+            for many in range(20, 60, 4):
+                told = telling(plan, a_run(draw, plan, many, clients=2, locks=2))
+                rows = dict(told)
+                rows = [rows.get(("client", client), ()) for client in range(2)]
+                if all(waits_well(row) and (not row or row[-1][0] not in ("ask", "not now", "deed")) for row in rows):
+                    cast = tuple(program_of(row) for row in rows)
+                    self.assertIn(end_of(cast, told), ends(cast, True))
+                    found += 1
+        self.assertGreater(found, 15)
+
     def test_cannot(self):
         for plan, cast, end in (
                 (LONE, (FIRST, SECOND), (3,)), (LONE, (FIRST, SECOND), ()), (changed(LONE, ("term",), at(1)), (FIRST, SECOND), (1,)),
                 (changed(LONE, ("length", 0), None), (FIRST, SECOND), (1,)), (LONE, (("take", 0, ("put", 0, 1, 1, (), ())),), (1,)),
-                (changed(LONE, ("length", 0), None), (FIRST,), (1,))):
+                (changed(LONE, ("length", 0), None), (FIRST,), (1,)), (LONE, (("look", 0, ("put", 0, 1, 1, (), ()), ()),), (0,)),
+                (changed(LONE, ("term",), at(1)), (("look", 0, (), ()),), ())):
             with self.assertRaises(CanNot):
                 run_to(plan, cast, end)
         forgets = changed(changed(LONE, ("length", 0), None), ("record", 0), "number")

@@ -243,6 +243,11 @@ class Worst(unittest.TestCase):
                 view = bent(view, (len(view) - 1, 1), at(10))
                 log, _ = self.check(world, view)
                 self.assertEqual(len(log) - len(view), many, view)
+        fallen = ((X, at(0), ("ask", 1, N)), (L, at(95), ("fall",)), (L, at(99), ("hear", 0)), (L, at(99), ("grant", N, at(999), at(1))),
+                  (X, at(4), ("hear", 3)), (X, at(10), ("look",)))
+        for leg in ((at(2), at(20), True), (at(2), at(20), False), (at(2), None, False)):
+            log, _ = self.check(bent(PAIR, (1, 1), leg), fallen)
+            self.assertEqual([act[0] for _, _, act in log[6:]], ["ask", "call", "hear", "grant"])
         released = VIEW + ((X, at(6), ("release", 0, N)), (X, at(6), ("look",)))
         self.assertEqual(self.check(WORLD, released)[0], released)
         self.assertEqual(self.check(bent(WORLD, (3,), (at(0), None)), VIEW)[0], VIEW)
@@ -254,6 +259,19 @@ class Worst(unittest.TestCase):
         self.assertTrue(is_view(world, view))
         log, _ = self.check(world, view)
         self.assertEqual(sorted(act[1] for _, _, act in log[len(view):] if act[0] == "hear"), [6, 7, 9])
+
+    def test_letters_heard_in_their_order(self):
+        """Letters to the keeper, from clients and from another keeper, that come in an order of their own."""
+        world = bent(PAIR, (1,), ((ONE, at(3), True), (at(2), at(20), True), FREE, (ONE, at(2), True)))
+        z = ("client", 1)
+        view = ((X, at(0), ("ask", 0, N)), (K, at(100), ("hear", 0)), (K, at(100), ("grant", N, at(160), None)), (X, at(4), ("hear", 2)),
+                (X, at(7), ("tell", K)), (Y, at(0), ("tell", K)), (Y, at(0), ("tell", X)), (X, at(8), ("hear", 6)), (L, at(0), ("tell", K)),
+                (L, at(1), ("tell", X)), (X, at(8), ("hear", 9)), (z, at(0), ("tell", K)), (z, at(0), ("tell", X)), (X, at(8), ("hear", 12)), (X, at(50), ("look",)))
+        self.assertTrue(is_view(world, view))
+        log, moments = self.check(world, view)
+        heard = [(place, act[1]) for place, (house, _, act) in enumerate(log) if place >= len(view) and act[0] == "hear"]
+        self.assertEqual(sorted(place for _, place in heard[:-1]), [4, 5, 8, 11])
+        self.assertEqual([moments[place] for place, _ in heard], sorted((moments[place] for place, _ in heard), key=lambda x: x[0] / x[1]))
 
     def test_drawn(self):
         draw = random.Random(221)
@@ -283,6 +301,10 @@ class Worst(unittest.TestCase):
         for thing in ((log, moments[:-1]), (log, bent(moments, (7,), at(0))), (log[:-1], moments[:-1]), (late, moments[:5]), (list(log), moments), (log,),
                       (log, list(moments)), [log, moments], (log, moments, 0), None, (bent(log, (0, 1), at(-1)), moments), (log[1:], moments[1:])):
             self.assertIs(is_worst(WORLD, late, thing), False, thing)
+        # A grant of what nobody asked for is in no LOG.
+        unasked = late + ((K, at(150), ("grant", (1, 6), None, None)),)
+        self.assertTrue(is_schedule(web_of_log(WORLD, unasked), moments[:5] + moments[7:]))
+        self.assertIs(is_worst(WORLD, late, (unasked, moments[:5] + moments[7:])), False)
         # Where the keeper is surely with it, nobody else can be there.
         self.assertIs(is_worst(WORLD, VIEW, (VIEW, schedule(web_of_log(WORLD, VIEW)))), True)
         self.assertIs(is_worst(WORLD, late, (late, schedule(web_of_log(WORLD, late)))), False)

@@ -205,7 +205,7 @@ class Proofs(unittest.TestCase):
                 ((bent(way, (2,), 1), goal, weights), other), ((bent(way, (2,), False), goal, weights), other),
                 ((bent(way, (0,), (False,)), goal, weights), other), ((bent(way, (1,), [0]), goal, weights), other),
                 ((way[:3], goal, weights), other), told + (5,), told + ((way, goal, ()),), ((way, goal, list(weights)), other),
-                ((way, [goal], weights), other)):
+                ((way, [goal], weights), other), ((5, goal, weights), other), (((), goal, weights), other), ((way + (0,), goal, weights), other)):
             self.assertIs(judge(thing), False, thing)
 
     def test_where_no_hold_can_be_had(self):

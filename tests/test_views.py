@@ -49,17 +49,26 @@ class Logs(unittest.TestCase):
             self.check(((X, (-1, 2), act),), True)
         for act in (("tell", X), ("tell", ("keeper", 2)), ("tell", ("store", 0, 0)), ("tell", ("client", -1)), ("tell", 5), ("tell",), ("look", 0),
                     ("fall",), ("ask", 2, N), ("ask", 0), ("ask", 0, (1, True)), ("ask", False, N), ("grant", N, None, None), ("call", N), (),
-                    ("release", 0), ["look"], "look", ("hear", -1), ("hear",), ("hear", True), ("wait",), None):
+                    ("release", 0), ["look"], "look", ("hear", -1), ("hear",), ("hear", True), ("wait",), None, ("renew", 0, N), ("grant", 0, N), ("fall",), ("call", 0, N)):
             self.check(((X, ONE, act),), False)
         for house, reading in ((("client",), ONE), (("keeper", 2), ONE), (("store", 0, 0), ONE), (["client", 5], ONE), (("client", True), ONE),
-                               (X, None), (X, 1), (X, (2, 2)), (X, [1, 1]), (("client", "5"), ONE)):
+                               (X, None), (X, 1), (X, (2, 2)), (X, [1, 1]), (("client", "5"), ONE), (("store", 0), ONE), (("shop", 1), ONE), (5, ONE)):
             self.check(((house, reading, ("tell", Y)),), False)
         ask = ((X, ONE, ("ask", 1, N)), (L, at(9), ("hear", 0)))
         for act, told in ((("grant", N, None, None), True), (("grant", N, (-3, 1), at(0)), True), (("grant", N, at(1), at(2)), True),
                           (("grant", N, None), False), (("grant", N, None, (-1, 1)), False), (("grant", N, 3, None), False),
                           (("grant", N, None, None, None), False), (("grant", [1, 5], None, None), False), (("look",), False),
-                          (("ask", 0, N), False), (("fall",), True), (("fall", 0), False), (("tell", L), False), (("tell", K), True)):
+                          (("ask", 0, N), False), (("fall",), True), (("fall", 0), False), (("tell", L), False), (("tell", K), True), (("deny", N, None, None), False),
+                          (("tell", ("shop", 1)), False), (("call",), False), (("renew", N), False)):
             self.check(ask + ((L, at(9), act),), told)
+        granted = ask + ((L, at(9), ("grant", N, at(1), at(2))),)
+        for act, told in ((("renew", N, at(2)), True), (("renew", N, 2), False), (("renew", N), False), (("renew", N, at(2), None), False),
+                          (("renew", N, at(1)), True), (("call", N), True), (("call", N, None), False), (("call", (1, 6)), False)):
+            self.check(granted + ((L, at(9), act),), told)
+        one = ("client", 1)
+        self.check(((one, ONE, ("ask", 0, (1, 1))),), True)
+        self.check(((one, ONE, ("ask", 0, (1, True))),), False)
+        self.check(((one, ONE, ("ask", 0, (1, 1, 1))),), False)
         for thing in (None, 5, "", list(ASKED), (X,), (None,), ((X, ONE),), ((X, ONE, ("look",), 0),)):
             self.assertIs(is_log(PAIR, thing), False)
         self.assertIs(is_log(PAIR, ()), True)
@@ -148,9 +157,14 @@ class Logs(unittest.TestCase):
                 (0, at(40), at(3), (calls, (12, ("renew", N, at(40))), later, next_one((159, 10))), False),
                 (0, None, None, (fall, next_one(99)), False), (1, None, None, (fall, next_one(14)), True), (1, None, None, (fall, next_one(13)), False),
                 (1, None, None, (fall, (12, ("fall",)), next_one(15)), False), (1, None, None, (fall, (12, ("fall",)), next_one(16)), True),
-                (1, None, None, (heard, fall, next_one(13)), False), (1, at(11), None, (next_one(11),), True), (0, at(11), None, (fall, next_one(11)), True),
+                (1, None, None, (heard, fall, next_one(13)), False), (1, at(11), None, (next_one(11),), True), (0, at(10), None, (fall, next_one(10)), True),
                 (0, None, None, ((10, ("tell", X)), next_one(99)), False)):
             self.check(self.granted(keeper, till, call, *acts), told)
+        # A release of an elder number ends nothing.
+        elder = self.granted(0, at(15), None, (15, ("grant", M, None, None)), heard)
+        elder = elder[:-1] + ((K, at(15), ("hear", 2)),)
+        third = ((X, at(0), ("ask", 0, (2, 5))), (K, at(15), ("hear", len(elder))))
+        self.check(elder + third + ((K, at(99), ("grant", (2, 5), None, None)),), False)
         # A fall ahead of the first grant counts for grace alone.
         first = ((X, at(0), ("ask", 1, N)), (Y, at(0), ("ask", 1, M)), (L, at(5), ("fall",)), (L, at(5), ("hear", 0)), (L, at(5), ("hear", 1)))
         self.check(first + ((L, at(8), ("grant", N, None, None)),), False)
