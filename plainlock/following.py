@@ -34,8 +34,9 @@ def _follows(claim, one):
         more = grants == granted and _is_part(carried, carry)
         return table == known and (more or (grants and carry == carried))
     if word == "smooth":
-        pairs = zip(claim[1][3], one[1][3])
-        return claim[1][:3] == one[1][:3] and not any([less(wait, known) for wait, known in pairs])
+        if claim[1][:3] != one[1][:3]:
+            return False
+        return not any([less(wait, known) for wait, known in zip(claim[1][3], one[1][3])])
     return False
 
 

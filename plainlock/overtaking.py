@@ -28,7 +28,7 @@ class Overtaking:
         self.mixing = mixing
         self.waits = waits
         self.a, self.b = sides
-        self.keepers = range(len(mixing.old[1]))
+        self.keepers = list(range(len(mixing.old[1])))
         self.course = Course((mixing.old, mixing.new))
         self.ask_leg, self.grant_leg = mixing.ask_leg, mixing.grant_leg
         # How each keeper of both ends the lesser hold, and the moments of all points.
