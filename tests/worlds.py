@@ -81,43 +81,48 @@ class Teller:
         assert self.put(house, ("hear", place))
 
     def deliver(self):
-        """Some letter comes, maybe once more."""
-        place, house, least, most = self.draw.choice(self.loose)
+        """Some letter comes, most often one that nobody heard; at times one that comes once more."""
+        heard = {act[1] for _, _, act in self.log if act[0] == "hear"}
+        new = [letter for letter in self.loose if letter[0] not in heard]
+        letter = self.draw.choice(self.loose)
+        if new and self.draw.random() < 0.9:
+            letter = new[0] if self.draw.random() < 0.7 else self.draw.choice(new)
+        place, house, least, most = letter
         start = self.moments[place]
-        soon = plus(start, least)
         if most is not None and less(plus(start, most), self.moment):
+            self.loose.remove(letter)
             return
-        if less(self.moment, soon):
-            self.go_to(soon)
+        if less(self.moment, plus(start, least)):
+            self.go_to(plus(start, least))
         if most is None or not less(plus(start, most), self.moment):
             self.hear(place, house)
 
     def act(self, house):
-        draw = self.draw
-        if draw.random() < 0.12:
-            return ("tell", draw.choice([other for other in self.houses if other != house]))
-        keepers = range(len(self.world[2]))
-        number = (draw.randint(1, 2), draw.randrange(3))
+        draw, roll = self.draw, self.draw.random()
+        keeper = draw.randrange(len(self.world[2]))
         if house[0] == "client":
-            number = (draw.randint(1, 2), house[1])
-            word = draw.choice(("ask", "ask", "release", "look", "look"))
-            return ("look",) if word == "look" else (word, draw.choice(keepers), number)
+            number = (draw.choice((1, 1, 2)), house[1])
+            if roll < 0.5:
+                return ("ask", keeper, number)
+            return ("release", keeper, number) if roll < 0.6 else self.tell(house) if roll < 0.72 else ("look",)
         pledge = self.reader.pledge(house[1])
         reading = self.last[house][1] if house in self.last else ZERO
         till = None if draw.random() < 0.3 else plus(reading, a_fraction(draw, 0, 8))
         call = None if draw.random() < 0.4 else a_fraction(draw, 0, 4)
-        word = draw.choice(("grant", "grant", "grant", "renew", "call", "fall"))
-        if word == "grant" and pledge.wanted:
+        if pledge.wanted and roll < 0.6:
             return ("grant", draw.choice(sorted(pledge.wanted)), till, call)
-        if word in ("renew", "call") and pledge.newest is not None:
-            return (word, pledge.newest) + ((till,) if word == "renew" else ())
-        return ("fall",) if draw.random() < 0.2 else ("tell", ("client", 0))
+        if pledge.newest is not None and roll < 0.8:
+            return draw.choice((("renew", pledge.newest, till), ("call", pledge.newest)))
+        return ("fall",) if roll < 0.86 else self.tell(house)
+
+    def tell(self, house):
+        return ("tell", self.draw.choice([other for other in self.houses if other != house]))
 
     def step(self):
         draw = self.draw
-        if self.loose and draw.random() < 0.45:
+        if self.loose and draw.random() < 0.55:
             self.deliver()
-        elif draw.random() < 0.2:
+        elif draw.random() < 0.1:
             self.go_to(plus(self.moment, a_fraction(draw, 0, 3)))
         else:
             house = draw.choice(self.houses)
