@@ -110,7 +110,7 @@ def _answer(desk, word, told):
         return plan_text(plan).split("\n")
     if word == "depth":
         undo, redo = desk.depth()
-        return [f"undo {undo} redo {redo}"]
+        return [" ".join(["undo", number_word(undo), "redo", number_word(redo)])]
     if word == "right":
         why = reasons(plan, told[0], told[1])
         return [" ".join(("wrong",) + why) if why else "right"]

@@ -22,7 +22,7 @@ def parts_of(cast):
         program = waiting.pop()
         if program not in numbers:
             numbers[program] = len(numbers)
-            waiting.extend(reversed(next_ones(program)))
+            waiting.extend(list(reversed(next_ones(program))))
     return numbers
 
 

@@ -152,6 +152,25 @@ class Rules(unittest.TestCase):
                 if isinstance(node, ast.Name) and isinstance(node.ctx, ast.Load):
                     self.assertIn(node.id, known | imported)
 
+    def test_iterated_at_once(self):
+        """What goes over something is iterated on the spot, or kept by a local variable."""
+        takers = {"list", "tuple", "dict", "sorted", "sum", "any", "all", "enumerate", "zip", "min", "max"}
+        for _, text, tree in self.each():
+            parents = {part: node for node in ast.walk(tree) for part in ast.iter_child_nodes(node)}
+            for node in ast.walk(tree):
+                if not isinstance(node, ast.Call):
+                    continue
+                name = node.func.id if isinstance(node.func, ast.Name) else node.func.attr if isinstance(node.func, ast.Attribute) else None
+                if name not in ("zip", "enumerate", "reversed", "range", "items", "keys", "values", "product", "combinations", "permutations"):
+                    continue
+                parent = parents[node]
+                if isinstance(parent, (ast.For, ast.comprehension)) or (isinstance(parent, ast.Assign) and name not in ("product", "combinations")):
+                    continue
+                if isinstance(parent, ast.Call) and isinstance(parent.func, ast.Name) and parent.func.id in takers:
+                    continue
+                self.assertTrue(isinstance(parent, ast.Call) and isinstance(parent.func, ast.Name) and name in ("range", "items")
+                                and parent.func.id in ("len", "reversed", "combinations", "permutations", "product"), ast.unparse(parent))
+
     def test_words(self):
         for _, text, _ in self.each():
             for word in re.findall(r"[A-Za-z_]+", without_comments(text)):
