@@ -108,13 +108,10 @@ class Overtaking:
         return greatest(found)
 
     def _believed(self, keeper):
-        """When the lesser hold's client takes its grant."""
-        taken = self.at(TAKEN, keeper)
-        if self.mixing.plan_by(self.a)[4][1] == "sent":
-            return plus(taken, self.grant_leg[0])
+        """When the lesser hold's client takes its grant: as late as can be."""
         if self.grant_leg[1] is None:
             return self.at(LOOK, keeper)
-        return least([self.at(LOOK, keeper), plus(taken, self.grant_leg[1])])
+        return least([self.at(LOOK, keeper), plus(self.at(TAKEN, keeper), self.grant_leg[1])])
 
     def _keep(self, keeper, is_lesser, is_greater, last, told):
         """What a keeper does."""

@@ -9,6 +9,8 @@ from plainlock.changes import crossings, is_change, is_run_of, joint, late_run, 
 from plainlock.clauses import FAILS, HOLDS, both, clause_of, either
 from plainlock.errors import CanNot
 from plainlock.fractions import greatest, less, minus, negative, over, plus, sum_of
+from plainlock.mixes import Mixing
+from plainlock.overtaking import Overtaking
 from plainlock.plain import list_of
 from plainlock.plans import can_hold, changed, is_plan, longest_belief
 from plainlock.right import is_right
@@ -279,6 +281,31 @@ class Crossings(unittest.TestCase):
                 waits = tuple(a_fraction(draw, 0, 20) for _ in change[3])
                 self.assertIs(holds(where, waits), crossings(change[:3] + (waits,)) == ())
         self.assertGreater(min(found.values()), 30)
+
+    def test_each_crossing(self):
+        """Each open CROSSING has a RUN, but for LOTS without a keeper in common, of which the other way round does."""
+        draw = random.Random(248)
+        found = {}
+        for k in range(120):
+            change = a_change(draw, k % 3)
+            told = crossings(change)
+            for (a, lot), (b, other) in told:
+                try:
+                    run = Overtaking(Mixing(*change[:3]), change[3], (a, b)).run(lot, other)
+                except CanNot:
+                    self.assertFalse(set(lot) & set(other))
+                    self.assertEqual((a, b), ("old", "new"))
+                    self.assertIn(((b, other), (a, lot)), told)
+                    continue
+                self.assertTrue(is_run_of(change, run))
+                early, late = late_look(change[:2], run)
+                self.assertEqual((run[early][0], run[late][0]), (THEM, ME))
+                starts = {house for house, _, _, act in run if act == ("start",)}
+                self.assertEqual(starts, {house for house, side in ((ME, a), (THEM, b)) if side == "new"})
+                key = (a, b, change[a == "new"][4][1], change[b == "new"][4][1])
+                found[key] = found.get(key, 0) + 1
+        self.assertGreater(min(found.values()), 5)
+        self.assertEqual(len(found), 12)
 
     def test_smooth_where_at_the_border(self):
         draw = random.Random(242)
