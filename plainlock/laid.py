@@ -139,10 +139,10 @@ def follows(plan, steps):
         return True
     if not can_hold(plan):
         return False
-    return lot_that_frees(tupled(plan), locks_of(steps)) is not None or _are_left(steps)
+    return lot_that_frees(tupled(plan), _locks_of(steps)) is not None or _are_left(steps)
 
 
-def locks_of(steps):
+def _locks_of(steps):
     """How many locks occur in STEPS."""
     return len(set([step[1] if step[0] in ("grant", "end") else step[1][1] for step in steps]))
 
@@ -210,4 +210,4 @@ def run_of(plan, steps):
         raise Unfit()
     if not follows(plan, steps):
         raise CanNot()
-    return Staging(plan, locks_of(steps)).run_of(steps)
+    return Staging(plan, _locks_of(steps)).run_of(steps)

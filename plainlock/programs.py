@@ -3,11 +3,11 @@
 from plainlock.doings import Doing
 from plainlock.errors import CanNot, Unfit
 from plainlock.forms import goes_up, is_count, is_number, is_place, is_row, is_tuple_of, tupled
-from plainlock.laid import locks_of, run_of
+from plainlock.laid import run_of
 from plainlock.listeners import first_misfit
 from plainlock.plans import can_hold
 from plainlock.staging import lot_that_frees
-from plainlock.standings import Standings, parts_of, steps_of, stores_of_parts
+from plainlock.standings import Standings, locks_of_parts, parts_of, steps_of, stores_of_parts
 
 
 def is_program(thing):
@@ -159,8 +159,10 @@ def run_to(plan, cast, end):
     """A RUN of plan whose TELLING is of cast and has this END; CanNot() if there is none, behind TooMany()."""
     plan, cast = tupled(plan), tupled(cast)
     steps = list_to(cast, True, end)
-    if not can_hold(plan) or not all([is_place(len(plan[5]), place) for _, place in stores_of(cast)]):
+    parts = list(parts_of(cast))
+    if not can_hold(plan) or not all([is_place(len(plan[5]), place) for _, place in stores_of_parts(parts)]):
         raise CanNot()
-    if lot_that_frees(plan, max(1, locks_of(steps))) is None:
+    # The locks of the CAST count, also those that this LIST does not come to.
+    if lot_that_frees(plan, len(locks_of_parts(parts))) is None:
         raise CanNot()
     return run_of(plan, steps)

@@ -6,7 +6,7 @@ from plainlock.keepers import free_from
 
 
 def lot_that_frees(plan, locks):
-    """A LOT that frees itself where so many locks occur; None without one."""
+    """A LOT that frees itself where so many locks occur, none being as one; None without one."""
     for lot in plan[0]:
         if all([_frees(plan[1][keeper], locks) for keeper in lot]):
             return lot
@@ -14,7 +14,7 @@ def lot_that_frees(plan, locks):
 
 
 def _frees(kept, locks):
-    return kept[0] is not None or (locks == 1 and kept[1] == "number")
+    return kept[0] is not None or (locks <= 1 and kept[1] == "number")
 
 
 class Staging:

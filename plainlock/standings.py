@@ -31,6 +31,11 @@ def stores_of_parts(parts):
     return tuple(sorted(set([(part[1], part[2]) for part in parts if part != () and part[0] in ("put", "get")])))
 
 
+def locks_of_parts(parts):
+    """The set of the locks that occur in such PROGRAMS."""
+    return tuple(sorted(set([part[1] for part in parts if part != ()])))
+
+
 class Standings:
     """The standings of a CAST, in the order in which moves lead to them; TooMany() if there are more than 5,000.
 
@@ -46,7 +51,7 @@ class Standings:
         numbers = parts_of(cast)
         self.parts = list(numbers)
         self.stores = stores_of_parts(self.parts)
-        self.locks = tuple(sorted(set([part[1] for part in self.parts if part != ()])))
+        self.locks = locks_of_parts(self.parts)
         # For each PROGRAM the numbers of those as which it can go on.
         self.after = [[numbers[one] for one in next_ones(part)] if part != () else [] for part in self.parts]
         self.lapse = lapse

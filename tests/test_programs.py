@@ -12,7 +12,6 @@ from plainlock.plans import can_hold, changed
 from plainlock.programs import end_of, ends, goes, is_cast, is_program, list_to, program_of, run_to, stores_of, stuck
 from plainlock.right import is_right
 from plainlock.runs import is_run, telling
-from plainlock.staging import lot_that_frees
 from tests.drawing import a_list, a_plan, a_quiet_list, a_run
 from tests.helping import LONE, at, check_call
 
@@ -418,29 +417,81 @@ def plain_steps(draw, cast):
     return tuple(steps)
 
 
+def locks_within(program):
+    """The locks that occur in a PROGRAM, read one by one."""
+    if program == ():
+        return set()
+    after = [part for part in program[2:] if isinstance(part, tuple)]
+    if program[0] == "get":
+        after = after[1:] + [case for _, case in program[3]]
+    return set().union({program[1]}, *[locks_within(part) for part in after])
+
+
+def some_lot_frees(plan, cast):
+    """Whether some LOT frees itself where these locks occur, as its words say."""
+    is_one = len(set().union(*[locks_within(program) for program in cast])) <= 1
+    return "forgets" in plan[6] or any(
+        all(plan[1][keeper][0] is not None or (is_one and plan[1][keeper][1] == "number") for keeper in lot) for lot in plan[0])
+
+
 class Runs(unittest.TestCase):
+    def check(self, plan, cast, end):
+        """Whether there is a RUN that comes to this END of ends, and run_to tells one exactly then."""
+        is_so = can_hold(plan) and some_lot_frees(plan, cast)
+        if is_so:
+            run = run_to(plan, cast, end)
+            self.assertTrue(is_run(plan, run))
+            self.assertEqual(end_of(cast, telling(plan, run)), end)
+        else:
+            with self.assertRaises(CanNot):
+                run_to(plan, cast, end)
+        return is_so
+
     def test_drawn(self):
         draw = random.Random(202)
-        found = {"run": 0, "cannot": 0}
-        for _ in range(60):
-            cast = a_cast(draw, 4)
+        found = {True: 0, False: 0}
+        for _ in range(90):
+            cast = a_cast(draw, 4, locks=draw.randint(1, 2))
             plan = a_plan(draw, stores=((True, True),))
             if len(Walk(cast, True).seen) > 5000:
                 continue
             for end in ends(cast, True)[:3]:
-                is_so = can_hold(plan) and lot_that_frees(plan, 2) is not None
-                if not is_so and (can_hold(plan) and lot_that_frees(plan, 1) is not None):
-                    continue
-                if not is_so:
-                    found["cannot"] += 1
-                    with self.assertRaises(CanNot):
-                        run_to(plan, cast, end)
-                    continue
-                found["run"] += 1
-                run = run_to(plan, cast, end)
-                self.assertTrue(is_run(plan, run))
-                self.assertEqual(end_of(cast, telling(plan, run)), end)
+                found[self.check(plan, cast, end)] += 1
         self.assertGreater(min(found.values()), 15)
+
+    def test_drawn_by_numbers_alone(self):
+        """Where the record "number" frees a LOT, all the locks of the CAST count, those of its LIST or not."""
+        draw = random.Random(206)
+        found = {}
+        for _ in range(250):
+            cast = a_cast(draw, 4, locks=draw.randint(1, 3))
+            plan = changed(changed(LONE, ("length", 0), None), ("record", 0), "number")
+            if len(Walk(cast, True).seen) > 5000:
+                continue
+            for end in ends(cast, True)[:3]:
+                played = {step[1] if step[0] in ("grant", "end") else step[1][1] for step in list_to(cast, True, end)}
+                kind = self.check(plan, cast, end), len(played) <= 1
+                found[kind] = found.get(kind, 0) + 1
+        self.assertEqual(sorted(found), [(False, False), (False, True), (True, True)])
+        self.assertGreater(min(found.values()), 15)
+
+    def test_locks_of_the_cast(self):
+        """Those behind a case, a not held, a look, a lapse count too, and those of each PROGRAM."""
+        plan = changed(changed(LONE, ("length", 0), None), ("record", 0), "number")
+        for lock in (0, 1, 9):
+            other = ("take", lock, ())
+            for cast, end in (
+                    ((("put", 0, 0, 1, other, ()),), (0,)), ((("put", 0, 0, 1, (), other),), (0,)),
+                    ((("get", 0, 0, ((0, other),), (), ()),), (0,)), ((("get", 0, 0, (), other, ()),), (0,)),
+                    ((("look", 0, other, ()),), ()), ((("look", 0, (), other),), ()), ((("free", 0, other),), ()),
+                    ((("take", 0, other),), ()), ((("free", 0, ()), other), ()), (((), ("free", 0, ()), ("free", lock, ())), ()),
+                    ((("take", 0, ("put", 0, 0, 1, ("put", 0, 0, 2, (), other), ())),), (2,))):
+                with self.subTest(cast=cast):
+                    self.assertEqual(self.check(plan, cast, end), lock == 0)
+                    self.assertTrue(self.check(changed(plan, ("length", 0), at(8)), cast, end))
+                    self.assertTrue(self.check(changed(plan, ("faults",), ("forgets",)), cast, end))
+                    self.assertFalse(self.check(changed(plan, ("record", 0), "all"), cast, end))
+        self.assertEqual(run_to(plan, ((),), ()), ())
 
     def test_each_end_of_a_right_plan(self):
         plan = changed(LONE, ("length", 0), at(9))
